@@ -1,0 +1,126 @@
+"""The names, arguments and places of the interface, and how the package as a whole is made."""
+
+import importlib
+import inspect
+import unittest
+from pathlib import Path
+
+import lastingshares
+
+ERRORS = {
+    "ChainError": (), "BadNumber": ("name",), "BadState": ("place",), "SameState": ("first", "second"),
+    "BadSet": ("place",), "BadTable": ("x", "y"), "NotJoined": ("lot",), "OtherSize": ("size",),
+    "BadPair": ("place",), "NotArrow": ("x", "y"), "BadRow": ("place",), "BadForest": ("place",),
+    "BadRing": ("place",), "BadCosts": ("x", "y"), "BadNotes": ("x", "y"), "NotAgreeing": ("x", "y"),
+    "NoTree": (), "NotReached": ("lot",), "TooMany": ("number",), "BadText": ("line",), "NoDeed": (),
+    "BadDeed": ("place",),
+}
+
+FUNCTIONS = {
+    "numbers": ["is_int(thing)", "fraction(u, v)", "is_less(one, other)", "sign_of(number)", "row_of(size, thing)",
+                "states_of(size, thing)", "lot_of(size, thing)", "check_states(size, states, unlike=())"],
+    "tables": ["summed(*tables)"],
+    "chains": ["is_joined(table)", "pair_list(size, pairs)", "arrow_list(table, pairs)", "same_shape(table, other)"],
+    "walks": ["has_walk(table, x, y, *, without=())", "shortest_walk(table, x, y, *, without=())",
+              "walks_along(table, x, y)", "walks(table, x, y)", "gates(table, x, y)", "is_gate(table, x, b, y)"],
+    "parted": ["parted_walks(table, x, y, z, u)", "separating(table, a, b, c, e)"],
+    "rings": ["rings_along(table)", "rings(table, *, limit=2000)", "rings_with(table, x, y)",
+              "ring_of(table, thing)", "ring_weight(table, ring)", "ring_cost(costs, ring)"],
+    "shapes": ["only_tree(chain, c)", "is_hanging(chain)", "crossing_rings(chain)", "second_walk(chain)",
+               "ungated(chain, c)"],
+}
+
+GENERATORS = ["walks_along", "rings_along"]
+
+METHODS = {
+    ("tables", "Table"): ["__init__(self, rows)", "rate(self, x, y)", "out_of(self, x)", "heads(self, x)",
+                          "tails(self, y)", "arrows(self)", "with_rate(self, x, y, rate)", "times(self, x, number)",
+                          "pairs_of(size)"],
+    ("chains", "Chain"): ["__init__(self, rows)", "with_rate(self, x, y, rate)", "times(self, x, number)",
+                          "around(cls, rates)", "of_arrows(cls, size, arrows)"],
+}
+
+SIGNS = {
+    ("tables", "Table"): ["__iter__", "__len__", "__contains__", "__getitem__", "__eq__", "__add__", "__mul__",
+                          "__invert__"],
+    ("chains", "Chain"): ["__add__", "__mul__", "__invert__"],
+}
+
+
+def module(name):
+    return importlib.import_module("lastingshares." + name)
+
+
+def signature_of(name, function):
+    return name + str(inspect.signature(function))
+
+
+class Names(unittest.TestCase):
+    def test_functions_stand_in_their_files_with_their_arguments(self):
+        for name, signatures in FUNCTIONS.items():
+            for signature in signatures:
+                word = signature.split("(")[0]
+                with self.subTest(signature):
+                    function = vars(module(name))[word]
+                    self.assertEqual(function.__module__, "lastingshares." + name)
+                    self.assertEqual(signature_of(word, function), signature)
+                    self.assertEqual(inspect.isgeneratorfunction(function), word in GENERATORS)
+
+    def test_methods_stand_in_their_classes_with_their_arguments(self):
+        for (name, title), signatures in METHODS.items():
+            found = vars(module(name))[title]
+            self.assertEqual(found.__module__, "lastingshares." + name)
+            for signature in signatures:
+                word = signature.split("(")[0]
+                with self.subTest(signature):
+                    method = vars(found)[word]
+                    self.assertEqual(signature_of(word, getattr(method, "__func__", method)), signature)
+
+    def test_signs_stand_in_their_classes(self):
+        for (name, title), words in SIGNS.items():
+            for word in words:
+                with self.subTest(title + word):
+                    self.assertIn(word, vars(vars(module(name))[title]))
+
+    def test_kinds_of_the_other_members(self):
+        table = vars(module("tables").Table)
+        chain = vars(module("chains").Chain)
+        self.assertIsInstance(table["many"], property)
+        self.assertIsInstance(table["pairs_of"], staticmethod)
+        self.assertIsInstance(chain["around"], classmethod)
+        self.assertIsInstance(chain["of_arrows"], classmethod)
+        self.assertEqual((table["WORD"], chain["WORD"]), ("table", "chain"))
+        self.assertTrue(issubclass(module("chains").Chain, module("tables").Table))
+
+
+class Errors(unittest.TestCase):
+    def test_each_error_stands_directly_below_the_base_class(self):
+        errors = module("errors")
+        self.assertEqual(errors.ChainError.__bases__, (Exception,))
+        for name in ERRORS:
+            with self.subTest(name):
+                found = vars(errors)[name]
+                self.assertEqual(found.__module__, "lastingshares.errors")
+                if name != "ChainError":
+                    self.assertEqual(found.__bases__, (errors.ChainError,))
+
+    def test_each_error_keeps_its_arguments(self):
+        for name, words in ERRORS.items():
+            with self.subTest(name):
+                values = [("value", place) for place in range(len(words))]
+                error = vars(module("errors"))[name](*values)
+                self.assertEqual([getattr(error, word) for word in words], values)
+                self.assertEqual(len(vars(error)), len(words))
+
+
+class Package(unittest.TestCase):
+    def test_the_package_file_holds_a_docstring_alone(self):
+        names = [name for name in vars(lastingshares) if not name.startswith("__")]
+        self.assertEqual([name for name in names if not inspect.ismodule(vars(lastingshares)[name])], [])
+        self.assertTrue(lastingshares.__doc__)
+        lines = Path(lastingshares.__file__).read_text().strip()
+        self.assertTrue(lines.startswith('"""') and lines.endswith('"""') and lines.count('"""') == 2)
+
+
+if __name__ == "__main__":
+    unittest.main()

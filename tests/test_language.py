@@ -1,0 +1,162 @@
+"""The rules of the language that a test can see: files, sizes, imports, names, and what is not used at all."""
+
+import ast
+import unittest
+from pathlib import Path
+
+import lastingshares
+
+FOLDER = Path(lastingshares.__file__).parent
+FILES = sorted(path for path in FOLDER.iterdir() if path.name != "__pycache__")
+LIBRARY = {"heapq": ["heappush", "heappop", "heapify", "heapreplace", "heappushpop"],
+           "math": ["gcd", "lcm", "isqrt", "comb", "perm", "factorial"],
+           "itertools": ["accumulate", "pairwise", "islice", "zip_longest"],
+           "collections": ["defaultdict"]}
+BUILTINS = ["len", "range", "enumerate", "zip", "min", "max", "sum", "abs", "sorted", "reversed", "int", "str", "bool",
+            "list", "tuple", "dict", "set", "isinstance", "ord", "repr", "any", "all", "divmod", "map", "iter", "next",
+            "super", "property", "staticmethod", "classmethod", "Exception", "ValueError", "KeyError",
+            "ZeroDivisionError", "NotImplemented"]
+WITH_LISTS = ["any", "all", "min", "max", "sum", "sorted"]
+NOT_USED = (ast.Global, ast.AsyncFunctionDef, ast.AsyncFor, ast.AsyncWith, ast.Await, ast.Div, ast.MatMult,
+            ast.AnnAssign, ast.Import)
+BARRED_NAMES = ["register", "mro", "elements", "open", "input", "law", "version_info", "with_traceback", "add_note"]
+PYTHON_NAMES = dir(__builtins__) if not isinstance(__builtins__, dict) else list(__builtins__)
+
+
+def trees():
+    return [(path.name, ast.parse(path.read_text(), str(path))) for path in FILES]
+
+
+def nodes(kind):
+    return [(name, node) for name, tree in trees() for node in ast.walk(tree) if isinstance(node, kind)]
+
+
+def bound_names(tree):
+    """The names that a file gives to functions, classes, parameters, variables and imports."""
+    for node in ast.walk(tree):
+        if isinstance(node, ast.ClassDef):
+            yield node.name
+        elif isinstance(node, ast.arg):
+            yield node.arg
+        elif isinstance(node, ast.Name) and isinstance(node.ctx, ast.Store):
+            yield node.id
+        elif isinstance(node, ast.alias):
+            yield node.asname or node.name
+    for node in tree.body:
+        if isinstance(node, ast.FunctionDef):
+            yield node.name
+
+
+def defined_names(tree):
+    """The names that a file defines at module level."""
+    for node in tree.body:
+        if isinstance(node, (ast.FunctionDef, ast.ClassDef)):
+            yield node.name
+        elif isinstance(node, ast.Assign):
+            yield node.targets[0].id
+
+
+class Files(unittest.TestCase):
+    def test_the_folder_holds_plain_files_alone(self):
+        for path in FILES:
+            self.assertTrue(path.is_file() and path.suffix == ".py", path.name)
+        self.assertLessEqual(len(FILES), 100)
+
+    def test_sizes_and_characters(self):
+        for path in FILES:
+            text = path.read_text()
+            lines = text.split("\n")
+            with self.subTest(path.name):
+                self.assertLess(len(lines), 400)
+                self.assertLessEqual(max(len(line) for line in lines), 120)
+                self.assertEqual([c for c in text if not (" " <= c <= "~" or c == "\n")], [])
+                self.assertNotIn("metaclass=", text)
+
+    def test_sizes_of_functions(self):
+        for name, node in nodes(ast.FunctionDef):
+            self.assertLessEqual(node.end_lineno - node.lineno + 1, 40, f"{name}: {node.name}")
+            self.assertTrue(ast.get_docstring(node) or node.name.startswith("__"), f"{name}: {node.name}")
+
+    def test_module_level(self):
+        allowed = (ast.ImportFrom, ast.FunctionDef, ast.ClassDef, ast.Assign)
+        for name, tree in trees():
+            self.assertTrue(ast.get_docstring(tree), name)
+            for node in tree.body[1:]:
+                self.assertIsInstance(node, allowed, name)
+
+
+class Imports(unittest.TestCase):
+    def test_each_import_names_the_file_that_defines_the_name(self):
+        defined = {name.removesuffix(".py"): list(defined_names(tree)) for name, tree in trees()}
+        for name, node in nodes(ast.ImportFrom):
+            words = [alias.name for alias in node.names]
+            known = LIBRARY.get(node.module) or defined.get(node.module.removeprefix("lastingshares."), [])
+            self.assertEqual([word for word in words if word not in known], [], name)
+            self.assertEqual([alias.asname for alias in node.names if alias.asname], [], name)
+
+    def test_no_two_files_import_from_each_other(self):
+        left = {name: [node.module.split(".")[-1] + ".py" for node in ast.walk(tree)
+                       if isinstance(node, ast.ImportFrom) and node.module not in LIBRARY] for name, tree in trees()}
+        while left:
+            ready = [name for name in left if not any(other in left for other in left[name])]
+            self.assertTrue(ready, f"a circle among {sorted(left)}")
+            left = {name: left[name] for name in left if name not in ready}
+
+    def test_every_import_is_used(self):
+        for name, tree in trees():
+            used = {node.id for node in ast.walk(tree) if isinstance(node, ast.Name)}
+            words = [alias.name for node in tree.body if isinstance(node, ast.ImportFrom) for alias in node.names]
+            self.assertEqual([word for word in words if word not in used], [], name)
+
+
+class Names(unittest.TestCase):
+    def test_no_name_has_another_meaning(self):
+        for name, tree in trees():
+            for word in bound_names(tree):
+                self.assertNotIn(word, PYTHON_NAMES, name)
+                self.assertNotIn(word, BARRED_NAMES, name)
+                self.assertFalse(word.startswith("__"), f"{name}: {word}")
+
+    def test_no_variable_has_the_name_of_an_import_or_class(self):
+        for name, tree in trees():
+            taken = [alias.name for node in tree.body if isinstance(node, ast.ImportFrom) for alias in node.names]
+            taken += [node.name for node in tree.body if isinstance(node, ast.ClassDef)]
+            for node in ast.walk(tree):
+                if isinstance(node, ast.arg):
+                    self.assertNotIn(node.arg, taken, name)
+                elif isinstance(node, ast.Name) and isinstance(node.ctx, ast.Store):
+                    self.assertNotIn(node.id, taken, name)
+
+    def test_only_these_builtins_are_used(self):
+        for name, node in nodes(ast.Name):
+            if node.id in PYTHON_NAMES:
+                self.assertIn(node.id, BUILTINS, name)
+
+
+class Forms(unittest.TestCase):
+    def test_what_is_not_used(self):
+        for name, node in nodes(NOT_USED):
+            self.fail(f"{name}: {node.lineno}: {type(node).__name__}")
+        for name, node in nodes(ast.Constant):
+            self.assertNotIsInstance(node.value, (float, complex), name)
+
+    def test_lists_stand_in_any_and_the_like(self):
+        for name, node in nodes(ast.Call):
+            if isinstance(node.func, ast.Name) and node.func.id in WITH_LISTS:
+                self.assertNotIsInstance(node.args[0], ast.GeneratorExp, f"{name}: {node.lineno}")
+
+    def test_is_stands_beside_none_true_and_false(self):
+        for name, node in nodes(ast.Compare):
+            for sign, other in zip(node.ops, node.comparators):
+                if isinstance(sign, (ast.Is, ast.IsNot)):
+                    self.assertIsInstance(other, ast.Constant, f"{name}: {node.lineno}")
+
+    def test_decorators_stand_over_methods_alone(self):
+        for name, tree in trees():
+            for node in tree.body:
+                if isinstance(node, (ast.FunctionDef, ast.ClassDef)):
+                    self.assertEqual(node.decorator_list, [], name)
+
+
+if __name__ == "__main__":
+    unittest.main()
