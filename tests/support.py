@@ -3,7 +3,7 @@
 from itertools import permutations, product
 
 from lastingshares.chains import Chain, is_joined
-from lastingshares.errors import ChainError
+from lastingshares.errors import BadRow, BadSet, BadState, ChainError, SameState
 from lastingshares.tables import Table
 
 
@@ -13,6 +13,49 @@ def check_error(case, expected, call, *args, **named):
         call(*args, **named)
     case.assertIs(type(caught.exception), type(expected))
     case.assertEqual(vars(caught.exception), vars(expected))
+
+
+def check_states_named(case, call, table, args, *, same=(), at=None):
+    """Fails if the call does not check its state arguments, which stand at these places of `args`, in order.
+
+    The other arguments may be wrong, too: the errors of the states come first.
+    """
+    places = list(range(len(args))) if at is None else list(at)
+    for place, index in enumerate(places):
+        for thing in (True, False, -1, table.size, None, "0", (0,)):
+            one, several = list(args), list(args)
+            one[index] = thing
+            for later in places[place:]:
+                several[later] = thing
+            check_error(case, BadState(place), call, table, *one)
+            check_error(case, BadState(place), call, table, *several)
+    for first, second in same:
+        equal = list(args)
+        equal[places[second]] = equal[places[first]]
+        check_error(case, SameState(first, second), call, table, *equal)
+
+
+def check_sets_named(case, call, *, least):
+    """Fails if the call with a set of the states 0, 1, 2 does not check it; it needs `least` states or more."""
+    for thing in (None, 0, True, "01", {0}, {0: 1}, range(2)):
+        check_error(case, BadSet(-1), call, thing)
+    for thing in (True, False, -1, 3, None, "0", (0,)):
+        check_error(case, BadSet(0), call, [thing])
+        check_error(case, BadSet(1), call, (2, thing))
+    check_error(case, BadSet(2), call, [1, 0, 1])
+    check_error(case, BadSet(1), call, (1, 1, 5))
+    for thing in ([], ()):
+        if least > 0:
+            check_error(case, BadSet(-2), call, thing)
+
+
+def check_rows_named(case, call):
+    """Fails if the call with a row for the states 0, 1, 2 does not check it."""
+    for thing in (None, 3, "012", {0: 1, 1: 1, 2: 1}, {0, 1, 2}, range(3), [], [1, 1], (1, 1, 1, 1)):
+        check_error(case, BadRow(-1), call, thing)
+    for thing in (True, False, None, "1", (1,), 1.0):
+        check_error(case, BadRow(0), call, [thing, 1, thing])
+        check_error(case, BadRow(2), call, (1, 1, thing))
 
 
 def check_new_list(case, call, *args):
@@ -51,9 +94,18 @@ def some_tables(size, many, seed):
     return tables
 
 
+def great(table):
+    """The table with the same arrows and rates up to some hundred thousand millions."""
+    return Table([[rate ** 12 for rate in row] for row in table.rows])
+
+
 SMALL = all_shapes(2) + all_shapes(3)
 TABLES = SMALL + some_tables(4, 60, 4) + some_tables(5, 25, 5)
 CHAINS = [Chain(table.rows) for table in TABLES + some_tables(4, 90, 44) + some_tables(5, 40, 55) if is_joined(table)]
+
+
+GREAT = [great(table) for table in some_tables(3, 8, 33) + some_tables(4, 8, 444)]
+MIXED = SMALL[::3] + TABLES[68::4] + GREAT
 
 
 def complete(size):
@@ -102,6 +154,64 @@ def leads_to(tree, x, c):
     for _ in tree:
         x = tree[x]
     return x == c
+
+
+def lead_of(forest, x):
+    while forest[x] != x:
+        x = forest[x]
+    return x
+
+
+def weight_of(table, forest):
+    weight = 1
+    for x, y in enumerate(forest):
+        if x != y:
+            weight *= table.rows[x][y]
+    return weight
+
+
+FORESTS = {}
+
+
+def slow_forests(table, roots):
+    """All forests with these roots; they are kept, because many tests ask for the same ones."""
+    key = (table.rows, tuple(sorted(roots)))
+    if key not in FORESTS:
+        entries = [[x] if x in roots else table.heads(x) for x in range(table.size)]
+        FORESTS[key] = [forest for forest in product(*entries) if not has_ring(forest)]
+    return FORESTS[key]
+
+
+def has_ring(forest):
+    """True if the arrows contain a ring: then some state is not at a root behind n steps."""
+    ends = list(range(len(forest)))
+    for _ in forest:
+        ends = [forest[x] for x in ends]
+    return any(forest[x] != x for x in ends)
+
+
+def slow_sum(table, roots, ends=()):
+    """The sum of point 16: over the forests with these roots in which x leads to c for each (x, c) of `ends`."""
+    return sum(weight_of(table, forest) for forest in slow_forests(table, roots)
+               if all(lead_of(forest, x) == c for x, c in ends))
+
+
+def slow_row(table, roots, c):
+    return tuple(slow_sum(table, roots, [(x, c)]) for x in range(table.size))
+
+
+def slow_long(table, x, c):
+    return sum(slow_sum(table, [c, z], [(x, z)]) for z in range(table.size) if z != c)
+
+
+def slow_push(table, a, b, c, e):
+    return slow_sum(table, [c, e], [(b, c)]) - slow_sum(table, [c, e], [(a, c)])
+
+
+def all_roots(size):
+    """All sets of at least one state, each one once, not all of them ascending."""
+    found = [[x for x in range(size) if mask >> x & 1] for mask in range(1, 2 ** size)]
+    return [roots if sum(roots) % 2 else roots[::-1] for roots in found]
 
 
 def slow_parted(table, x, y, z, u):

@@ -24,6 +24,68 @@ raises NotJoined((0, 1))
 >>> (gates(chain, 2, 1), walks(chain, 1, 0), only_tree(chain, 1), ungated(chain, 0))
 ((2, 0, 1), [(1, 0), (1, 2, 0)], (1, 1, 0), (1, 2))
 """,
+    r"""
+>>> from lastingshares.texts import rate_table, table_from
+>>> table = table_from("states 3\n0 1 12\n2 0 4")
+>>> rate_table(table)
+' . 12  0\n 0  .  0\n 4  0  .'
+""",
+    """
+>>> from lastingshares.chains import Chain
+>>> from lastingshares.forests import forest_weight, forests, lead_row
+>>> chain = Chain([[0, 2, 0], [1, 0, 3], [4, 0, 0]])
+>>> [list(forests(chain, [0])), forest_weight(chain, (0, 2, 0)), lead_row((1, 1, 2))]
+[[(0, 0, 0), (0, 2, 0)], 12, (1, 1, 2)]
+""",
+    """
+>>> from lastingshares.chains import Chain
+>>> from lastingshares.sums import forest_row, forest_sum, forest_two, listed_sum
+>>> chain = Chain([[0, 1, 2, 0], [0, 0, 1, 1], [1, 0, 0, 3], [1, 0, 0, 0]])
+>>> [forest_row(chain, 2, [3]), forest_sum(chain, (3, 2)), forest_two(chain, 0, 2, 1, 3), listed_sum(chain, [2, 3], [(0, 3)])]
+[(5, 3, 6, 0), 6, 2, 1]
+""",
+    """
+>>> from lastingshares.chains import Chain
+>>> from lastingshares.trees import holding_all, shares, tree_row, with_shares
+>>> chain = Chain([[0, 2, 0], [1, 0, 3], [4, 0, 0]])
+>>> [tree_row(chain), shares(chain), holding_all(chain, [(1, 2)]), with_shares(chain, [1, 1, 1]).rows]
+[(16, 8, 6), ((8, 15), (4, 15), (1, 5)), 18, ((0, 16, 0), (4, 0, 12), (12, 0, 0))]
+""",
+    """
+>>> from lastingshares.chains import Chain
+>>> from lastingshares.carried import current_rows, ring_sums
+>>> chain = Chain([[0, 2, 0], [1, 0, 3], [4, 0, 0]])
+>>> (current_rows(chain), ring_sums(chain))
+(((0, 32, 0), (8, 0, 24), (24, 0, 0)), [((0, 1), 8), ((0, 1, 2), 24)])
+""",
+    """
+>>> from lastingshares.chains import Chain
+>>> from lastingshares.comings import chance_row
+>>> chain = Chain([[0, 1, 1], [1, 0, 2], [1, 0, 0]])
+>>> chance_row(chain, 1, 2)
+((1, 2), (1, 1), (0, 1))
+""",
+    """
+>>> from lastingshares.chains import Chain
+>>> from lastingshares.longs import long_row, time_row
+>>> chain = Chain([[0, 1, 1], [1, 0, 2], [1, 0, 0]])
+>>> (long_row(chain, 2), time_row(chain, 2))
+((4, 3, 0), ((4, 5), (3, 5), (0, 1)))
+""",
+    """
+>>> from lastingshares.chains import Chain
+>>> from lastingshares.gaps import detour, there_and_back
+>>> chain = Chain([[0, 1, 1], [1, 0, 2], [1, 0, 0]])
+>>> [detour(chain, 0, 1, 2), detour(chain, 2, 0, 1), there_and_back(chain, 1, 2)]
+[(9, 5), (0, 1), (18, 5)]
+""",
+    """
+>>> from lastingshares.chains import Chain
+>>> from lastingshares.pushes import gainers, parting, push, share_pushes
+>>> chain = Chain([[0, 1, 1], [1, 0, 2], [1, 0, 0]])
+>>> (push(chain, 0, 1, 1, 2), share_pushes(chain, 0, 1), parting(chain, 0, 1), gainers(chain, 0, 1))
+(1, (-3, 2, 1), 4, (1, 2, 0))
+""",
 ]
 
 

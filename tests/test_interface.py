@@ -28,9 +28,27 @@ FUNCTIONS = {
               "ring_of(table, thing)", "ring_weight(table, ring)", "ring_cost(costs, ring)"],
     "shapes": ["only_tree(chain, c)", "is_hanging(chain)", "crossing_rings(chain)", "second_walk(chain)",
                "ungated(chain, c)"],
+    "texts": ["table_text(table)", "table_from(string)", "chain_from(string)", "rate_table(table)"],
+    "forests": ["forests(table, roots)", "trees(table, x)", "forest_of(table, thing, roots)", "lead(forest, x)",
+                "lead_row(forest)", "roots_in(forest)", "forest_arrows(forest)", "forest_weight(table, forest)"],
+    "sums": ["forest_sum(table, roots)", "forest_row(table, c, others=())", "forest_two(table, x, c, y, e)",
+             "listed_sum(table, roots, ends=())", "determinant(rows)"],
+    "trees": ["tree_sum(table, x)", "tree_row(table)", "tree_total(table)", "shares(table)", "lowest_row(table)",
+              "holding(table, arrows, x)", "holding_all(table, arrows)", "drift(table, heights)",
+              "with_shares(chain, row)"],
+    "carried": ["current(table, x, y)", "current_rows(table)", "ring_sums(table)", "ring_parts(table, x, y)"],
+    "comings": ["coming_row(table, c, e)", "pair_sum(table, c, e)", "chance(table, x, c, e)",
+                "chance_row(table, c, e)", "likelier(table, a, b, c, e)"],
+    "longs": ["long_row(table, c)", "long(table, x, c)", "mean_time(table, x, c)", "time_row(table, c)",
+              "two_root_sum(table)"],
+    "gaps": ["detour_sum(table, x, y, z)", "detour(table, x, y, z)", "there_and_back(table, y, z)",
+             "sooner(chain, x, y, z)"],
+    "pushes": ["push(table, a, b, c, e)", "push_rows(table, c, e)", "lifting(table, a, b, c, e)",
+               "lowering(table, a, b, c, e)", "share_push(table, a, b, c)", "share_pushes(table, a, b)",
+               "mean_push(table, a, b, row)", "parting(table, a, b)", "gainers(table, a, b)"],
 }
 
-GENERATORS = ["walks_along", "rings_along"]
+GENERATORS = ["walks_along", "rings_along", "forests"]
 
 METHODS = {
     ("tables", "Table"): ["__init__(self, rows)", "rate(self, x, y)", "out_of(self, x)", "heads(self, x)",

@@ -17,6 +17,13 @@ BUILTINS = ["len", "range", "enumerate", "zip", "min", "max", "sum", "abs", "sor
             "super", "property", "staticmethod", "classmethod", "Exception", "ValueError", "KeyError",
             "ZeroDivisionError", "NotImplemented"]
 WITH_LISTS = ["any", "all", "min", "max", "sum", "sorted"]
+AT_ONCE = ["range", "zip", "enumerate", "reversed", "map"]
+TAKERS = ["list", "tuple", "dict", "sorted", "sum", "any", "all", "enumerate", "zip", "min", "max", "join", "range",
+          "reversed"]
+METHODS = ["append", "clear", "copy", "count", "endswith", "extend", "find", "get", "index", "insert", "isalnum",
+           "isalpha", "isdigit", "items", "join", "keys", "ljust", "lower", "lstrip", "partition", "pop", "remove",
+           "replace", "reverse", "rfind", "rjust", "rsplit", "rstrip", "setdefault", "split", "startswith", "strip",
+           "update", "upper", "values", "zfill", "bit_length", "add", "discard"]
 NOT_USED = (ast.Global, ast.AsyncFunctionDef, ast.AsyncFor, ast.AsyncWith, ast.Await, ast.Div, ast.MatMult,
             ast.AnnAssign, ast.Import)
 BARRED_NAMES = ["register", "mro", "elements", "open", "input", "law", "version_info", "with_traceback", "add_note"]
@@ -54,6 +61,29 @@ def defined_names(tree):
             yield node.name
         elif isinstance(node, ast.Assign):
             yield node.targets[0].id
+
+
+def beside():
+    """Each node below another one, with the name of its file and the node above it."""
+    return [(name, node, above) for name, above in nodes(ast.AST) for node in ast.iter_child_nodes(above)]
+
+
+def called(node):
+    """The name of the function or method that a node calls; an empty string if it calls none."""
+    if not isinstance(node, ast.Call):
+        return ""
+    return node.func.id if isinstance(node.func, ast.Name) else getattr(node.func, "attr", "")
+
+
+def generators():
+    return {node.name for _, node in nodes(ast.FunctionDef)
+            if any(isinstance(part, (ast.Yield, ast.YieldFrom)) for part in ast.walk(node))}
+
+
+def is_iterated(node, above):
+    if isinstance(above, (ast.For, ast.comprehension)):
+        return above.iter is node
+    return called(above) in TAKERS and node in above.args
 
 
 class Files(unittest.TestCase):
@@ -150,6 +180,40 @@ class Forms(unittest.TestCase):
             for sign, other in zip(node.ops, node.comparators):
                 if isinstance(sign, (ast.Is, ast.IsNot)):
                     self.assertIsInstance(other, ast.Constant, f"{name}: {node.lineno}")
+
+    def test_ranges_and_the_like_are_iterated_at_once(self):
+        for name, node, above in beside():
+            if called(node) in AT_ONCE and not is_iterated(node, above):
+                kept_range = called(node) == "range" and isinstance(above, (ast.Assign, ast.Compare))
+                self.assertTrue(kept_range, f"{name}: {node.lineno}")
+
+    def test_reversed_takes_what_is_plainly_no_table(self):
+        for name, node in nodes(ast.Call):
+            if called(node) == "reversed":
+                self.assertIn(called(node.args[0]), ["list", "tuple", "sorted", "range"], f"{name}: {node.lineno}")
+
+    def test_generators_are_iterated_at_once(self):
+        names = generators()
+        for name, node, above in beside():
+            if called(node) in names:
+                taken = isinstance(above, ast.YieldFrom) or is_iterated(node, above)
+                self.assertTrue(taken and called(above) not in WITH_LISTS, f"{name}: {node.lineno}")
+                for part in node.args:
+                    self.assertIsInstance(part, (ast.Name, ast.Attribute, ast.Constant, ast.Tuple),
+                                          f"{name}: {node.lineno}")
+            elif isinstance(node, ast.Name) and node.id in names:
+                self.assertTrue(called(above) == node.id and above.func is node, f"{name}: {node.lineno}")
+
+    def test_only_these_methods_of_builtin_values_are_called(self):
+        own = {node.name for _, node in nodes(ast.FunctionDef)}
+        for name, node in nodes(ast.Call):
+            if isinstance(node.func, ast.Attribute) and node.func.attr not in own:
+                self.assertTrue(node.func.attr in METHODS or node.func.attr == "__init__", f"{name}: {node.lineno}")
+
+    def test_errors_are_raised_on_the_spot(self):
+        for name, node in nodes(ast.Raise):
+            self.assertIsInstance(node.exc, ast.Call, f"{name}: {node.lineno}")
+            self.assertTrue(called(node.exc)[0].isupper() and node.cause is None, f"{name}: {node.lineno}")
 
     def test_decorators_stand_over_methods_alone(self):
         for name, tree in trees():
