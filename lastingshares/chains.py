@@ -93,3 +93,11 @@ def arrow_list(table, pairs):
 def same_shape(table, other):
     """Returns True if both tables have the same states and the same arrows."""
     return table.size == other.size and table.arrows() == other.arrows()
+
+
+def with_fast(chain, pairs, rate):
+    """Returns the Chain of the same shape with this rate at those of its arrows that are among the pairs, else 1."""
+    rows = [[0] * chain.size for _ in range(chain.size)]
+    for x, y in chain:
+        rows[x][y] = rate if (x, y) in pairs else 1
+    return Chain(rows)

@@ -1,6 +1,6 @@
 """Detours, the way there and back, and which of two states is come to sooner."""
 
-from lastingshares.chains import Chain
+from lastingshares.chains import with_fast
 from lastingshares.comings import coming_row, pair_sum
 from lastingshares.errors import NoTree
 from lastingshares.longs import long
@@ -39,11 +39,12 @@ def sooner(chain, x, y, z):
     if walk is None:
         return None
     # The faster this walk, the sooner it comes to z; but from z to y the mean time never falls below some bound.
+    arrows = list(zip(walk, walk[1:]))
     rate = 1
-    found = quick_along(chain, walk, rate)
+    found = with_fast(chain, arrows, rate)
     while not is_later(found, x, y, z):
         rate = rate * STEP
-        found = quick_along(chain, walk, rate)
+        found = with_fast(chain, arrows, rate)
     return found
 
 
@@ -53,15 +54,6 @@ def both_trees(table, y, z):
     if both == 0:
         raise NoTree()
     return both
-
-
-def quick_along(chain, walk, rate):
-    """Returns a Chain of the same arrows, with this rate at those of the walk and 1 at the others."""
-    quick = list(zip(walk, walk[1:]))
-    rows = [[0] * chain.size for _ in range(chain.size)]
-    for x, y in chain:
-        rows[x][y] = rate if (x, y) in quick else 1
-    return Chain(rows)
 
 
 def is_later(chain, x, y, z):

@@ -40,3 +40,9 @@ def time_row(table, c):
 def two_root_sum(table):
     """Returns the sum of the weights of all forests with exactly two roots."""
     return sum([sum_over(table.rows, (c, e)) for c, e in table.pairs_of(table.size) if c < e])
+
+
+def weighted_longs(table, row):
+    """Returns for each state x the sum over all states c of the entry of c times the long M(x,c)."""
+    longs = [long_row(table, c) for c in range(table.size)]
+    return tuple([sum([entry * found[x] for entry, found in zip(row, longs)]) for x in range(table.size)])

@@ -39,8 +39,7 @@ def listed_sum(table, roots, ends=()):
     """Returns the sum over the forests with these roots in which x leads to c for each pair (x, c) of `ends`."""
     chosen = roots_of(table.size, roots)
     check_ends(table.size, chosen, ends)
-    ones = [[min(rate, 1) for rate in row] for row in table.rows]
-    if sum_over(ones, chosen) > MOST_LISTED:
+    if forest_number(table, chosen) > MOST_LISTED:
         raise TooMany(MOST_LISTED)
     total = 0
     for forest in forests(table, chosen):
@@ -85,6 +84,12 @@ def out_rows(rates, part, left):
 def sum_over(rates, roots):
     """Returns the sum of the weights of the forests with these roots on all states."""
     return sum_within(rates, list(range(len(rates))), roots)
+
+
+def forest_number(table, roots):
+    """Returns the number of forests with these roots."""
+    ones = [[min(rate, 1) for rate in row] for row in table.rows]
+    return sum_over(ones, roots)
 
 
 def sum_within(rates, part, roots):

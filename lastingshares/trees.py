@@ -50,8 +50,7 @@ def holding(table, arrows, x):
 
 def holding_all(table, arrows):
     """Returns the sum of the weights of all trees that have all these arrows."""
-    held = arrow_list(table, arrows)
-    return sum([held_sum(table, held, x) for x in range(table.size)])
+    return held_total(table, arrow_list(table, arrows))
 
 
 def drift(table, heights):
@@ -81,6 +80,11 @@ def held_sum(table, held, x):
     heads = dict(held)
     rows = [kept_alone(row, heads[a]) if a in heads else row for a, row in enumerate(table.rows)]
     return sum_over(rows, (x,))
+
+
+def held_total(table, held):
+    """Returns the sum of the weights of all trees that have all arrows of `held`."""
+    return sum([held_sum(table, held, x) for x in range(table.size)])
 
 
 def kept_alone(row, head):

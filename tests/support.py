@@ -3,7 +3,8 @@
 from itertools import permutations, product
 
 from lastingshares.chains import Chain, is_joined
-from lastingshares.errors import BadRow, BadSet, BadState, ChainError, SameState
+from lastingshares.errors import (BadCosts, BadNumber, BadPair, BadRow, BadSet, BadState, ChainError, NotArrow,
+                                  OtherSize, SameState)
 from lastingshares.tables import Table
 
 
@@ -58,6 +59,66 @@ def check_rows_named(case, call):
         check_error(case, BadRow(2), call, (1, 1, thing))
 
 
+def check_numbers_named(case, name, call, *, least):
+    """Fails if the call with a number does not check it; it is an integer of at least `least`, or any one if None."""
+    for thing in (True, False, None, "1", (1,), 1.0, [2]):
+        check_error(case, BadNumber(name), call, thing)
+    if least is not None:
+        check_error(case, BadNumber(name), call, least - 1)
+        check_error(case, BadNumber(name), call, -10 ** 12)
+
+
+def check_signs_named(case, signs, call):
+    """Fails if the call with a sign does not check it."""
+    for thing in (True, False, None, "1", (1,), 2, -2, *[sign for sign in (1, 0, -1) if sign not in signs]):
+        check_error(case, BadNumber("sign"), call, thing)
+
+
+def check_arrows_named(case, call, table, arrows):
+    """Fails if the call with these arrows, all of them different ones of the table, does not check each one."""
+    absent = [pair for pair in table.pairs_of(table.size) if pair not in table]
+    for place in range(len(arrows)):
+        for thing in (None, 0, "01", {0: 1, 1: 0}, {0, 1}, (0,), (0, 1, 2), (1, 1), (0, table.size), (-1, 0),
+                      (True, 0), (0, False), ("0", 1), [0, None]):
+            one = list(arrows)
+            one[place] = thing
+            check_error(case, BadPair(place), call, *one)
+            check_error(case, BadPair(place), call, *one[:place], *[thing] * (len(arrows) - place))
+        for earlier in range(place):
+            one = list(arrows)
+            one[place] = list(arrows[earlier])
+            check_error(case, BadPair(place), call, *one)
+        for x, y in absent:
+            one = list(arrows)
+            one[place] = (x, y)
+            check_error(case, NotArrow(x, y), call, *one)
+            # A wrong pair comes before one that is no arrow, wherever the two stand.
+            for later in range(place + 1, len(arrows)):
+                several = list(one)
+                several[later] = (1, 1)
+                check_error(case, BadPair(later), call, *several)
+    if len(arrows) > 1 and len(absent) > 1:
+        check_error(case, NotArrow(*absent[1]), call, absent[1], absent[0], *arrows[2:])
+
+
+def check_costs_named(case, call):
+    """Fails if the call with costs for the states 0, 1, 2 does not check them."""
+    for thing in (3, "012", {0: 1}, range(3), [], [[0, 1, 1]] * 2, [[0, 1, 1]] * 4):
+        check_error(case, BadCosts(-1, -1), call, thing)
+    for x in range(3):
+        for thing in (None, 0, "012", {0, 1, 2}, [], [0, 0], [0, 0, 0, 0]):
+            costs = [[0, 1, 2], [3, 0, -4], [5, 6, 0]]
+            costs[x] = thing
+            check_error(case, BadCosts(x, -1), call, costs)
+            check_error(case, BadCosts(x, -1), call, tuple(costs[:x]) + (thing,) * (3 - x))
+        for y in range(3):
+            for thing in (True, False, None, "1", 1.0, (1,), *([1, -1] if x == y else [])):
+                costs = [[0, 1, 2], [3, 0, -4], [5, 6, 0]]
+                costs[x][y] = thing
+                costs[x][y + 1:] = [None] * (2 - y)
+                check_error(case, BadCosts(x, y), call, costs)
+
+
 def check_new_list(case, call, *args):
     """Fails if the call does not return a new list each time, or if a change of one changes a later one."""
     first = call(*args)
@@ -66,6 +127,10 @@ def check_new_list(case, call, *args):
     first.append("changed")
     case.assertEqual(call(*args), kept)
     case.assertIsNot(call(*args), call(*args))
+
+
+def shape_of(table):
+    return (table.size, tuple(table.arrows()))
 
 
 def of_mask(size, mask):
@@ -119,7 +184,17 @@ def empty(size):
 # The definitions of the document, tried out on all sequences of states.
 
 
+WALKS = {}
+
+
 def slow_walks(table, x, y):
+    key = (shape_of(table), x, y)
+    if key not in WALKS:
+        WALKS[key] = all_walks(table, x, y)
+    return WALKS[key]
+
+
+def all_walks(table, x, y):
     if x == y:
         return [(x,)]
     others = [z for z in range(table.size) if z not in (x, y)]
@@ -190,10 +265,21 @@ def has_ring(forest):
     return any(forest[x] != x for x in ends)
 
 
+WEIGHED = {}
+
+
+def weighed(table, roots):
+    """The weight and the tuple of the ends of each forest with these roots."""
+    key = (table.rows, tuple(sorted(roots)))
+    if key not in WEIGHED:
+        WEIGHED[key] = [(weight_of(table, forest), tuple(lead_of(forest, x) for x in range(table.size)))
+                        for forest in slow_forests(table, roots)]
+    return WEIGHED[key]
+
+
 def slow_sum(table, roots, ends=()):
     """The sum of point 16: over the forests with these roots in which x leads to c for each (x, c) of `ends`."""
-    return sum(weight_of(table, forest) for forest in slow_forests(table, roots)
-               if all(lead_of(forest, x) == c for x, c in ends))
+    return sum(weight for weight, leads in weighed(table, roots) if all(leads[x] == c for x, c in ends))
 
 
 def slow_row(table, roots, c):
@@ -208,16 +294,96 @@ def slow_push(table, a, b, c, e):
     return slow_sum(table, [c, e], [(b, c)]) - slow_sum(table, [c, e], [(a, c)])
 
 
+def slow_share_push(table, a, b, c):
+    return sum(slow_push(table, a, b, c, e) for e in range(table.size) if e != c)
+
+
+def slow_mean_push(table, a, b, row):
+    return sum(entry * slow_share_push(table, a, b, c) for c, entry in enumerate(row))
+
+
+def slow_trees_of(table):
+    """The sums of the weights of the trees to all states."""
+    return [slow_sum(table, [x]) for x in range(table.size)]
+
+
+def slow_held(table, arrows, c):
+    """The sum of the weights of the trees to c that have all these arrows."""
+    return sum(weight_of(table, tree) for tree in slow_forests(table, [c]) if all(tree[a] == b for a, b in arrows))
+
+
+def slow_held_total(table, arrows):
+    return sum(slow_held(table, arrows, c) for c in range(table.size))
+
+
+def sign(number):
+    return (number > 0) - (number < 0)
+
+
 def all_roots(size):
     """All sets of at least one state, each one once, not all of them ascending."""
     found = [[x for x in range(size) if mask >> x & 1] for mask in range(1, 2 ** size)]
     return [roots if sum(roots) % 2 else roots[::-1] for roots in found]
 
 
+PARTED = {}
+
+
 def slow_parted(table, x, y, z, u):
+    key = (shape_of(table), x, y, z, u)
+    if key not in PARTED:
+        PARTED[key] = all_parted(table, x, y, z, u)
+    return PARTED[key]
+
+
+def all_parted(table, x, y, z, u):
     found = [(first, second) for first in slow_walks(table, x, y) for second in slow_walks(table, z, u)
              if not set(first) & set(second)]
     return min(found, key=lambda two: (len(two[0]), two[0], len(two[1]), two[1]), default=None)
+
+
+def are_parted(table, x, y, z, u):
+    """True if some walk from x to y and some walk from z to u have no common state."""
+    return slow_parted(table, x, y, z, u) is not None
+
+
+def slow_word(lifts, lowers):
+    if lifts and lowers:
+        return "mixed"
+    return "lifts" if lifts else "lowers" if lowers else "still"
+
+
+def slow_ratio_word(chain, a, b, c, e):
+    return slow_word(are_parted(chain, b, c, a, e), are_parted(chain, b, e, a, c))
+
+
+def slow_share_word(chain, a, b, c):
+    up = any(a not in walk for walk in slow_walks(chain, b, c))
+    down = any(b not in walk for walk in slow_walks(chain, a, c))
+    return slow_word(up, down)
+
+
+def several_rates(chain, many=6):
+    """Chains of the same shape with rates near to one another and far from one another, the same ones in each run."""
+    found = [chain]
+    number = len(chain) * 1000 + chain.size
+    for turn in range(many - 1):
+        rows = [[0] * chain.size for _ in range(chain.size)]
+        for x, y in chain.arrows():
+            number = (number * 6364136223846793005 + 1442695040888963407) % 2 ** 64
+            rows[x][y] = 1 + (number >> 40) % 9 if turn % 2 else 10 ** ((number >> 40) % 9)
+        found.append(Chain(rows))
+    return found
+
+
+def one_of_each_shape(chains):
+    found = {}
+    for chain in chains:
+        found.setdefault(shape_of(chain), chain)
+    return sorted(found.values(), key=lambda chain: chain.size)
+
+
+SHAPES = one_of_each_shape(CHAINS)
 
 
 def all_lots(size):

@@ -1,6 +1,8 @@
-"""The examples of the document, word by word."""
+"""The examples of the document, word by word, and those of README.md."""
 
+import doctest
 import unittest
+from pathlib import Path
 
 from lastingshares import errors
 
@@ -86,6 +88,61 @@ raises NotJoined((0, 1))
 >>> (push(chain, 0, 1, 1, 2), share_pushes(chain, 0, 1), parting(chain, 0, 1), gainers(chain, 0, 1))
 (1, (-3, 2, 1), 4, (1, 2, 0))
 """,
+    """
+>>> from lastingshares.chains import Chain
+>>> from lastingshares.compared import ratio_gap, ratio_terms
+>>> from lastingshares.single import Faster, moves_share, moves_time
+>>> chain = Chain([[0, 1, 1], [1, 0, 2], [1, 0, 0]])
+>>> new = Faster(0, 1, 2)(chain)
+>>> [ratio_gap(chain, new, 1, 2), ratio_terms(chain, new, 1, 2), moves_share(chain, 0, 1, 2), moves_time(chain, 0, 1, 0, 2)]
+[6, [(0, 1, 6)], 1, -1]
+""",
+    """
+>>> from lastingshares.chains import Chain
+>>> from lastingshares.growth import factor, rate_for, run_ends, step_of
+>>> chain = Chain([[0, 1, 1], [1, 0, 2], [1, 0, 0]])
+>>> (factor(chain, 0, 1, 2, 2), step_of(chain, 0, 1, 2), run_ends(chain, 0, 1, 1, 2), rate_for(chain, 0, 1, 1, 2, 1, 3))
+((9, 5), 'between', ((0, 3), (1, 2)), (3, 1))
+""",
+    """
+>>> from lastingshares.chains import Chain
+>>> from lastingshares.pairings import lifting_forest, lifting_walks
+>>> from lastingshares.verdicts import mixed_arrows, ratio_verdict
+>>> chain = Chain.of_arrows(4, [(0, 1), (0, 2), (0, 3), (1, 2), (1, 3), (2, 0), (3, 0)])
+>>> [ratio_verdict(chain, 0, 1, 2, 3), lifting_walks(chain, 0, 1, 2, 3), lifting_forest(chain, 0, 1, 2, 3), mixed_arrows(chain, 2, 3)]
+['mixed', ((1, 2), (0, 3)), (3, 2, 2, 3), [(0, 1)]]
+""",
+    """
+>>> from lastingshares.chains import Chain
+>>> from lastingshares.pushes import push
+>>> from lastingshares.rates import forested
+>>> chain = Chain.of_arrows(4, [(0, 1), (0, 2), (0, 3), (1, 2), (1, 3), (2, 0), (3, 0)])
+>>> rates = forested(chain, (3, 2, 2, 3), 7)
+>>> (rates.rows, push(rates, 0, 1, 2, 3))
+(((0, 1, 1, 7), (0, 0, 7, 1), (1, 0, 0, 0), (1, 0, 0, 0)), 48)
+""",
+    """
+>>> from lastingshares.chains import Chain
+>>> from lastingshares.means import linked, lot_lowerer
+>>> chain = Chain.of_arrows(4, [(0, 1), (0, 3), (1, 2), (2, 0), (3, 0)])
+>>> (linked(chain, 0, 1), lot_lowerer(chain, [3, 1]))
+([(1, 0), (1, 3), (2, 0), (2, 3)], (0, 1))
+""",
+    """
+>>> from lastingshares.chains import Chain
+>>> from lastingshares.timing import time_verdict
+>>> from lastingshares.verdicts import still_classes
+>>> ring = Chain.around([1, 1, 1])
+>>> (time_verdict(ring, 0, 1, 0, 2), time_verdict(ring, 0, 1, 1, 2), still_classes(ring, 0, 1))
+('sooner', 'still', [(0,), (1, 2)])
+""",
+    """
+>>> from lastingshares.chains import Chain
+>>> from lastingshares.falls import by_pushes, by_shares, fall, fall_to
+>>> chain = Chain([[0, 2, 3], [5, 0, 7], [1, 0, 0]])
+>>> [fall_to(chain, (0, 1), (1, 2), 2), by_pushes(chain, (0, 1), (1, 2), 2), fall(chain, (0, 1), (1, 2)), by_shares(chain, (0, 1), (1, 2))]
+[-210, -210, -224, -224]
+""",
 ]
 
 
@@ -107,6 +164,13 @@ class Examples(unittest.TestCase):
             lines = example.strip().split("\n")
             with self.subTest(lines[-2]):
                 self.assertEqual(outcome([line.removeprefix(">>> ") for line in lines[:-1]]), lines[-1])
+
+    def test_the_readme(self):
+        text = (Path(__file__).parent.parent / "README.md").read_text().replace("```", "")
+        examples = doctest.DocTestParser().get_doctest(text, {}, "README.md", "README.md", 0)
+        runner = doctest.DocTestRunner()
+        runner.run(examples, out=self.fail)
+        self.assertGreater(runner.tries, 20)
 
 
 if __name__ == "__main__":

@@ -46,6 +46,27 @@ FUNCTIONS = {
     "pushes": ["push(table, a, b, c, e)", "push_rows(table, c, e)", "lifting(table, a, b, c, e)",
                "lowering(table, a, b, c, e)", "share_push(table, a, b, c)", "share_pushes(table, a, b)",
                "mean_push(table, a, b, row)", "parting(table, a, b)", "gainers(table, a, b)"],
+    "compared": ["two_sized(old, new)", "changed_pairs(old, new)", "ratio_gap(old, new, c, e)",
+                 "ratio_terms(old, new, c, e)", "share_gap(old, new, c)", "mean_gap(old, new, row)",
+                 "mean_terms(old, new, row)", "chance_gap(old, new, x, c, e)", "chance_terms(old, new, x, c, e)",
+                 "long_gap(old, new, x, c)", "long_terms(old, new, x, c)"],
+    "single": ["moves_ratio(chain, a, b, c, e)", "moves_share(chain, a, b, c)", "moves_time(chain, a, b, x, c)",
+               "moves_chance(chain, a, b, x, c, e)"],
+    "growth": ["factor(chain, a, b, by, c)", "step_of(chain, a, b, c)", "run_ends(table, a, b, c, e)",
+               "rate_for(chain, a, b, c, e, u, v)"],
+    "pairings": ["lifting_walks(chain, a, b, c, e)", "lowering_walks(chain, a, b, c, e)",
+                 "grown(chain, roots, walks)", "lifting_forest(chain, a, b, c, e)",
+                 "lowering_forest(chain, a, b, c, e)"],
+    "verdicts": ["ratio_verdict(chain, a, b, c, e)", "share_verdict(chain, a, b, c)", "still_classes(chain, a, b)",
+                 "mixed_arrows(chain, c, e)", "one_way(chain, c)"],
+    "rates": ["forested(chain, forest, number)", "lifted_rates(chain, a, b, c, e)",
+              "lowered_rates(chain, a, b, c, e)", "level_rates(chain, a, b, c, e)",
+              "share_rates(chain, a, b, c, sign)"],
+    "means": ["linked(chain, a, b)", "mean_verdict(chain, a, b, row)", "mean_rates(chain, a, b, row, sign)",
+              "lot_verdict(chain, a, b, lot)", "lot_lowerer(chain, lot)"],
+    "timing": ["time_verdict(chain, a, b, x, c)", "chance_verdict(chain, a, b, x, c, e)"],
+    "falls": ["fall_to(table, one, other, c)", "fall(table, one, other)", "by_pushes(table, one, other, c)",
+              "by_shares(table, one, other)"],
 }
 
 GENERATORS = ["walks_along", "rings_along", "forests"]
@@ -56,6 +77,7 @@ METHODS = {
                           "pairs_of(size)"],
     ("chains", "Chain"): ["__init__(self, rows)", "with_rate(self, x, y, rate)", "times(self, x, number)",
                           "around(cls, rates)", "of_arrows(cls, size, arrows)"],
+    ("single", "Faster"): ["__init__(self, a, b, by)", "__call__(self, table)", "word(self)"],
 }
 
 SIGNS = {

@@ -145,7 +145,7 @@ class Names(unittest.TestCase):
             for word in bound_names(tree):
                 self.assertNotIn(word, PYTHON_NAMES, name)
                 self.assertNotIn(word, BARRED_NAMES, name)
-                self.assertFalse(word.startswith("__"), f"{name}: {word}")
+                self.assertTrue(word == "__slots__" or not word.startswith("__"), f"{name}: {word}")
 
     def test_no_variable_has_the_name_of_an_import_or_class(self):
         for name, tree in trees():
