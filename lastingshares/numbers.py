@@ -2,7 +2,7 @@
 
 from math import gcd
 
-from lastingshares.errors import BadNumber, BadRow, BadSet, BadState, SameState
+from lastingshares.errors import BadCosts, BadNumber, BadRow, BadSet, BadState, SameState
 
 LEAST_SIZE = 2
 MOST_SIZE = 8
@@ -105,3 +105,20 @@ def check_states(size, states, unlike=()):
     for first, second in unlike:
         if states[first] == states[second]:
             raise SameState(first, second)
+
+
+def cost_rows(size, thing):
+    """Returns costs, `size` rows of `size` integers with 0 at each place (x, x), as a tuple of tuples."""
+    if not is_list(thing) or len(thing) != size:
+        raise BadCosts(-1, -1)
+    return tuple([cost_row(size, x, row) for x, row in enumerate(thing)])
+
+
+def cost_row(size, x, row):
+    """Returns row x of costs as a tuple."""
+    if not is_list(row) or len(row) != size:
+        raise BadCosts(x, -1)
+    for y, cost in enumerate(row):
+        if not is_int(cost) or (x == y and cost != 0):
+            raise BadCosts(x, y)
+    return tuple(row)

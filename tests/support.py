@@ -2,9 +2,11 @@
 
 from itertools import permutations, product
 
+from lastingshares.aims import Cost, Mean, Ratio
 from lastingshares.chains import Chain, is_joined
 from lastingshares.errors import (BadCosts, BadNumber, BadPair, BadRow, BadSet, BadState, ChainError, NotArrow,
-                                  OtherSize, SameState)
+                                  SameState)
+from lastingshares.notes import Notes
 from lastingshares.tables import Table
 
 
@@ -117,6 +119,19 @@ def check_costs_named(case, call):
                 costs[x][y] = thing
                 costs[x][y + 1:] = [None] * (2 - y)
                 check_error(case, BadCosts(x, y), call, costs)
+
+
+def check_aims_named(case, call):
+    """Fails if the call with an aim for the states 0, 1, 2 does not check it."""
+    for thing in (True, False, -1, 3, None, "0", (0,)):
+        check_error(case, BadState(0), call, Ratio(thing, 1))
+        check_error(case, BadState(0), call, Ratio(thing, thing))
+        check_error(case, BadState(1), call, Ratio(1, thing))
+    check_error(case, SameState(0, 1), call, Ratio(2, 2))
+    check_rows_named(case, lambda row: call(Mean(row)))
+    for costs in ([[0] * 3] * 3, None):
+        check_rows_named(case, lambda row: call(Cost(row, costs)))
+    check_costs_named(case, lambda costs: call(Cost([1, 2, 3], costs)))
 
 
 def check_new_list(case, call, *args):
@@ -384,6 +399,69 @@ def one_of_each_shape(chains):
 
 
 SHAPES = one_of_each_shape(CHAINS)
+
+
+def some_notes(chains, seed):
+    """Notes with few worlds and a low at each rate of a chain; pairs that are no arrows may be unseen, too."""
+    number = seed
+    found = []
+    for turn, chain in enumerate(chains):
+        highs = [list(row) for row in chain.rows]
+        many = 1
+        pairs = chain.pairs_of(chain.size)
+        start = turn * 5 % len(pairs)
+        for x, y in pairs[start:] + pairs[:start]:
+            number = (number * 6364136223846793005 + 1442695040888963407) % 2 ** 64
+            width = 1 + (number >> 50) % 3
+            if (number >> 40) % 7 < turn % 7 and many * (width + 1) <= MOST_WORLDS:
+                highs[x][y] += width
+                many *= width + 1
+        found.append(Notes(chain.rows, highs))
+    return found
+
+
+MOST_WORLDS = 48
+# The first two have no pair that is seen.
+NOTES = [Notes([[0, 1], [1, 0]], [[0, 4], [3, 0]]),
+         Notes([[0, 1, 0], [0, 0, 1], [1, 0, 0]], [[0, 2, 1], [1, 0, 2], [2, 1, 0]])]
+NOTES += some_notes(CHAINS[:19] * 2 + CHAINS[19:124:4] + CHAINS[95:], 7)
+
+
+def slow_worlds(notes):
+    """All tables that agree with the notes, ascending by their rows."""
+    size = notes.size
+    choices = [range(notes.lows.rows[x][y], notes.highs.rows[x][y] + 1) for x in range(size) for y in range(size)]
+    return [Chain([rates[x * size:(x + 1) * size] for x in range(size)]) for rates in product(*choices)]
+
+
+def slow_pair(aim, table):
+    """The two integers of point 92."""
+    sums = slow_trees_of(table)
+    if isinstance(aim, Ratio):
+        return (sums[aim.over], sums[aim.under])
+    u = sum(entry * number for entry, number in zip(aim.row, sums))
+    if isinstance(aim, Cost):
+        u += sum(aim.costs[x][y] * sums[x] * table.rows[x][y] for x, y in table.pairs_of(table.size))
+    return (u, sum(sums))
+
+
+def slow_aim_push(aim, table, a, b):
+    """The push of point 93."""
+    if isinstance(aim, Ratio):
+        return slow_push(table, a, b, aim.over, aim.under)
+    if isinstance(aim, Mean):
+        return slow_mean_push(table, a, b, aim.row)
+    row = [aim.row[x] + sum(aim.costs[x][y] * table.rows[x][y] for y in range(table.size)) for x in range(table.size)]
+    return slow_mean_push(table, a, b, row) + aim.costs[a][b] * sum(slow_trees_of(table))
+
+
+def aims_for(size):
+    """Ratios, means and costs for tables of this size; some rows have equal entries, some costs are all 0."""
+    costs = [[0 if x == y else (3 * x + 5 * y) % 7 - 3 for y in range(size)] for x in range(size)]
+    zeros = [[0] * size for _ in range(size)]
+    return [Ratio(0, size - 1), Ratio(size - 1, size // 2 - 1), Mean([1] + [0] * (size - 1)), Mean([4] * size),
+            Mean([3, -1, 4, -1, 5][:size]), Cost([0] * size, costs), Cost([-2, 7, 1, 8, -2][:size], costs),
+            Cost([5, 0, -1, 2, 2][:size], zeros)]
 
 
 def all_lots(size):

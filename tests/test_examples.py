@@ -143,6 +143,51 @@ raises NotJoined((0, 1))
 >>> [fall_to(chain, (0, 1), (1, 2), 2), by_pushes(chain, (0, 1), (1, 2), 2), fall(chain, (0, 1), (1, 2)), by_shares(chain, (0, 1), (1, 2))]
 [-210, -210, -224, -224]
 """,
+    """
+>>> from lastingshares.chains import Chain
+>>> from lastingshares.rooted import falls_out, rooted_verdict
+>>> chain = Chain([[0, 2, 3], [5, 0, 7], [1, 0, 0]])
+>>> (falls_out(chain, (0, 1), 1, 2), rooted_verdict(chain, (0, 1), (1, 2), 2))
+([((1, 0), 210), ((1, 2), -210)], 'helpful')
+""",
+    """
+>>> from lastingshares.chains import Chain
+>>> from lastingshares.couples import couple_verdict, couple_walks
+>>> chain = Chain([[0, 2, 3], [5, 0, 7], [1, 0, 0]])
+>>> (couple_walks(chain, (0, 1), (1, 2)), couple_verdict(chain, (0, 1), (1, 2)), couple_verdict(chain, (0, 1), (1, 0)))
+((True, False, True, True), 'both', 'contrary')
+""",
+    """
+>>> from lastingshares.chains import Chain
+>>> from lastingshares.many import push_square, square_sum
+>>> chain = Chain([[0, 2, 3], [5, 0, 7], [1, 0, 0]])
+>>> (push_square(chain, [(1, 2), (0, 1)], 2), square_sum(chain, [(1, 2), (0, 1)], 2))
+(((7, -3), (5, 5)), 700)
+""",
+    """
+>>> from lastingshares.chains import Chain
+>>> from lastingshares.aims import Cost, Mean, Ratio
+>>> chain = Chain([[0, 2, 0], [1, 0, 3], [4, 0, 0]])
+>>> cost = Cost([0, 0, 0], [[0, 1, 0], [0, 0, 0], [0, 0, 0]])
+>>> [Ratio(0, 2)(chain), Mean([1, 0, 2])(chain), cost(chain), Mean([1, 0, 0]).push_at(chain, 1, 2)]
+[(8, 3), (14, 15), (16, 15), 3]
+""",
+    """
+>>> from lastingshares.notes import Notes, worlds
+>>> from lastingshares.aims import Ratio
+>>> from lastingshares.ends import ends_of
+>>> from lastingshares.boxes import decided
+>>> notes = Notes([[0, 2, 0], [1, 0, 1], [4, 0, 0]], [[0, 2, 0], [1, 0, 5], [4, 0, 0]])
+>>> [list(notes), len(worlds(notes)), ends_of(notes, Ratio(0, 1)), decided(notes, Ratio(0, 1))]
+[[(1, 2)], 5, ((1, 1), (3, 1)), (((1, 2),), (), ())]
+""",
+    """
+>>> from lastingshares.notes import Notes
+>>> from lastingshares.papers import bound_row, ratio_paper
+>>> notes = Notes([[0, 2, 0], [1, 0, 1], [4, 0, 0]], [[0, 2, 0], [1, 0, 5], [4, 0, 0]])
+>>> [ratio_paper(notes, 0, 1), bound_row(notes, [4, 0, 4])]
+[(24, 8, (4, 0, 4)), (-8, 24, 0)]
+""",
 ]
 
 

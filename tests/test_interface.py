@@ -67,9 +67,27 @@ FUNCTIONS = {
     "timing": ["time_verdict(chain, a, b, x, c)", "chance_verdict(chain, a, b, x, c, e)"],
     "falls": ["fall_to(table, one, other, c)", "fall(table, one, other)", "by_pushes(table, one, other, c)",
               "by_shares(table, one, other)"],
+    "rooted": ["falls_out(table, one, state, c)", "falls_out_total(table, one, state)",
+               "rooted_verdict(chain, one, other, c)", "rooted_rates(chain, one, other, c, sign)"],
+    "couples": ["couple_walks(chain, one, other)", "couple_verdict(chain, one, other)",
+                "couple_rates(chain, one, other, word)"],
+    "many": ["push_square(table, arrows, c)", "square_sum(table, arrows, c)", "rounds(table, one, other, third, c)",
+             "third_sum(table, one, other, third, c)"],
+    "notes": ["worlds(notes, *, limit=1000)", "corners(notes, *, limit=1000)", "is_scaled(notes, scaled)"],
+    "aims": ["of_scaled(aim, scaled)"],
+    "ends": ["greatest(notes, aim)", "least(notes, aim)", "is_greatest(notes, aim, world)",
+             "is_least(notes, aim, world)", "better(notes, aim, world)", "ends_of(notes, aim)"],
+    "boxes": ["decided(notes, aim)", "box(notes, aim)", "grows_high(notes, aim, x, y)",
+              "grows_low(notes, aim, x, y)"],
+    "papers": ["bound_row(notes, heights, *, scale=1, costs=None)",
+               "is_paper(notes, row, scale, heights, *, costs=None)", "paper(notes, row, *, costs=None)",
+               "against(notes, row, *, costs=None)", "ratio_paper(notes, c, e)", "at_least(notes, c, e, u, v)"],
 }
 
 GENERATORS = ["walks_along", "rings_along", "forests"]
+
+AIM = ["check(self, size)", "pair_in(self, table)", "push_at(self, table, a, b)", "word(self)",
+       "__call__(self, table)"]
 
 METHODS = {
     ("tables", "Table"): ["__init__(self, rows)", "rate(self, x, y)", "out_of(self, x)", "heads(self, x)",
@@ -78,12 +96,24 @@ METHODS = {
     ("chains", "Chain"): ["__init__(self, rows)", "with_rate(self, x, y, rate)", "times(self, x, number)",
                           "around(cls, rates)", "of_arrows(cls, size, arrows)"],
     ("single", "Faster"): ["__init__(self, a, b, by)", "__call__(self, table)", "word(self)"],
+    ("notes", "Notes"): ["__init__(self, lows, highs)", "of_world(cls, chain)", "around(cls, chain, below, above)",
+                         "stretch(self, x, y)", "unseen(self)", "agrees(self, table)", "wrong_pair(self, table)",
+                         "world(self, pairs)", "narrow(self, x, y, low, high)", "widen(self, x, y, low, high)",
+                         "ask(self, x, y, rate)", "shape(self)"],
+    ("aims", "Aim"): ["check(self, size)", "word(self)", "__call__(self, table)"],
+    ("aims", "Ratio"): ["__init__(self, over, under)", *AIM],
+    ("aims", "Mean"): ["__init__(self, row)", *AIM],
+    ("aims", "Cost"): ["__init__(self, row, costs)", *AIM],
 }
 
 SIGNS = {
     ("tables", "Table"): ["__iter__", "__len__", "__contains__", "__getitem__", "__eq__", "__add__", "__mul__",
                           "__invert__"],
     ("chains", "Chain"): ["__add__", "__mul__", "__invert__"],
+    ("notes", "Notes"): ["__iter__", "__len__", "__and__", "__eq__"],
+    ("aims", "Ratio"): ["__eq__"],
+    ("aims", "Mean"): ["__eq__"],
+    ("aims", "Cost"): ["__eq__"],
 }
 
 
@@ -130,6 +160,12 @@ class Names(unittest.TestCase):
         self.assertIsInstance(chain["around"], classmethod)
         self.assertIsInstance(chain["of_arrows"], classmethod)
         self.assertEqual((table["WORD"], chain["WORD"]), ("table", "chain"))
+        notes, aims = vars(module("notes").Notes), vars(module("aims"))
+        self.assertIsInstance(notes["unseen_many"], property)
+        self.assertIsInstance(notes["of_world"], classmethod)
+        self.assertIsInstance(notes["around"], classmethod)
+        self.assertEqual([vars(aims[name])["WORD"] for name in ("Aim", "Ratio", "Mean", "Cost")],
+                         ["aim", "ratio", "mean", "cost"])
         self.assertTrue(issubclass(module("chains").Chain, module("tables").Table))
 
 
