@@ -4,6 +4,7 @@ from lastingshares.errors import NoTree
 from lastingshares.longs import weighted_longs
 from lastingshares.numbers import check_states, cost_rows, fraction, is_list, row_of
 from lastingshares.pushes import push_rows
+from lastingshares.texts import number_text
 from lastingshares.trees import tree_row, tree_total
 
 
@@ -192,4 +193,5 @@ def checked_push(aim, table, a, b):
 
 def row_word(word, row):
     """Returns the word and the numbers of the row, with a space between each two."""
-    return " ".join([word] + [str(entry) for entry in row])
+    # Rows may be heights that the program returned, which have no greatest length.
+    return " ".join([word] + [number_text(entry) for entry in row])

@@ -91,6 +91,11 @@ def number_of(word):
     return number
 
 
+def number_text(number):
+    """Returns an integer as digits, behind a minus sign if it is below 0."""
+    return "-" + digits_of(-number) if number < 0 else digits_of(number)
+
+
 def digits_of(number):
     """Returns the digits of a number of at least 0."""
     pieces = []

@@ -72,6 +72,7 @@ class Making(unittest.TestCase):
     def test_words(self):
         self.assertEqual([Ratio(0, 2).word(), Mean([1, 0, -2]).word(), Cost([3, -10 ** 12], [[0, 1], [1, 0]]).word()],
                          ["ratio 0 2", "mean 1 0 -2", "cost 3 -1000000000000"])
+        self.assertEqual(Mean([10 ** 5000, -10 ** 5000]).word(), "mean 1" + "0" * 5000 + " -1" + "0" * 5000)
 
 
 class Checks(unittest.TestCase):
