@@ -1,6 +1,6 @@
 """Aims: ratios, means and costs, which are to be great or small."""
 
-from lastingshares.errors import NoTree
+from lastingshares.errors import BadNumber, NoTree
 from lastingshares.longs import weighted_longs
 from lastingshares.numbers import check_states, cost_rows, fraction, is_list, row_of
 from lastingshares.pushes import push_rows
@@ -157,6 +157,13 @@ def of_scaled(aim, scaled):
     # The table has `scale` times the rates, and so `scale` times what the arrows cost.
     u, v = mean_pair(table, Cost([scale * entry for entry in aim.row], aim.costs).state_costs(table))
     return defined_fraction((u, scale * v))
+
+
+def check_costless(aim, size):
+    """Raises an error if the aim does not fit tables of this size, or if it is neither a Ratio nor a Mean."""
+    aim.check(size)
+    if not isinstance(aim, Ratio) and not isinstance(aim, Mean):
+        raise BadNumber("aim")
 
 
 def as_tuple(thing):

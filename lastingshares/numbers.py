@@ -1,6 +1,6 @@
 """Exact fractions, and the checks of arguments that all modules share."""
 
-from math import gcd
+from math import gcd, lcm
 
 from lastingshares.errors import BadCosts, BadNumber, BadRow, BadSet, BadState, SameState
 
@@ -41,6 +41,13 @@ def check_number(name, number, least):
         raise BadNumber(name)
 
 
+def check_fraction(u, v):
+    """Raises BadNumber if u is not an integer or v is not an integer of at least 1."""
+    if not is_int(u):
+        raise BadNumber("u")
+    check_number("v", v, 1)
+
+
 def fraction(u, v):
     """Returns the fraction u : v in lowest terms, with a second part of at least 1."""
     if not is_int(u):
@@ -62,6 +69,14 @@ def sign_of(number):
     if number > 0:
         return 1
     return -1 if number < 0 else 0
+
+
+def common_multiple(row):
+    """Returns the least common multiple of the integers of the row, which are at least 1."""
+    common = 1
+    for entry in row:
+        common = lcm(common, entry)
+    return common
 
 
 def row_of(size, thing):

@@ -1,10 +1,10 @@
 """Tree sums and shares, trees that hold given arrows, drifts, and chains with wanted shares."""
 
-from math import gcd, lcm
+from math import gcd
 
 from lastingshares.chains import Chain, arrow_list
 from lastingshares.errors import BadRow, NoTree
-from lastingshares.numbers import check_states, fraction, row_of
+from lastingshares.numbers import check_states, common_multiple, fraction, row_of
 from lastingshares.sums import sum_over
 from lastingshares.tables import scaled_rows
 
@@ -65,9 +65,7 @@ def with_shares(chain, row):
     for place, entry in enumerate(wanted):
         if entry < 1:
             raise BadRow(place)
-    common = 1
-    for entry in wanted:
-        common = lcm(common, entry)
+    common = common_multiple(wanted)
     factors = [number * (common // entry) for number, entry in zip(tree_row(chain), wanted)]
     return Chain(scaled_rows(chain, divided(factors)))
 

@@ -1,11 +1,12 @@
 """What several tests use: tables to try, slow definitions to compare with, and a check of errors."""
 
 from itertools import permutations, product
+from math import gcd
 
 from lastingshares.aims import Cost, Mean, Ratio
 from lastingshares.chains import Chain, is_joined
-from lastingshares.errors import (BadCosts, BadNumber, BadPair, BadRow, BadSet, BadState, ChainError, NotArrow,
-                                  SameState)
+from lastingshares.errors import (BadCosts, BadNumber, BadPair, BadRow, BadSet, BadState, ChainError, NotAgreeing,
+                                  NotArrow, OtherSize, SameState)
 from lastingshares.notes import Notes
 from lastingshares.tables import Table
 
@@ -59,6 +60,55 @@ def check_rows_named(case, call):
     for thing in (True, False, None, "1", (1,), 1.0):
         check_error(case, BadRow(0), call, [thing, 1, thing])
         check_error(case, BadRow(2), call, (1, 1, thing))
+
+
+def check_shares_named(case, call):
+    """Fails if the call with a share row for the states 0, 1, 2 does not check it."""
+    check_rows_named(case, call)
+    for thing in (0, -1, -10 ** 12):
+        for place in range(3):
+            row = [1, 2, 3]
+            row[place:] = [thing] * (3 - place)
+            check_error(case, BadRow(place), call, row)
+            check_error(case, BadRow(place), call, tuple(row))
+
+
+def check_pairs_named(case, call):
+    """Fails if the call with a list of pairs of the states 0, 1, 2 does not check it."""
+    for thing in (None, 0, "01", {(0, 1)}, {0: 1}, range(2)):
+        check_error(case, BadPair(-1), call, thing)
+    for thing in (None, 0, "01", {0, 1}, (0,), (0, 1, 2), (1, 1), (0, 3), (-1, 0), (True, 0), (0, False), ("0", 1)):
+        check_error(case, BadPair(0), call, [thing])
+        check_error(case, BadPair(0), call, (thing, thing))
+        check_error(case, BadPair(1), call, ([0, 1], thing))
+    check_error(case, BadPair(1), call, [(0, 1), [0, 1], (5, 5)])
+
+
+def check_arrow_lists_named(case, call):
+    """Fails if the call with a list of arrows of the chain with the arrows 01, 10, 12, 20 does not check it."""
+    check_pairs_named(case, call)
+    check_error(case, NotArrow(0, 2), call, [(2, 1), (0, 1), (0, 2)])
+    check_error(case, NotArrow(0, 2), call, ((0, 2), (2, 1)))
+    check_error(case, NotArrow(2, 1), call, [[2, 1]])
+    check_error(case, BadPair(2), call, [(0, 2), (0, 1), (1, 1)])
+
+
+def check_worlds_named(case, call, notes):
+    """Fails if the call with a world of these notes, which have 3 states and a pair that is seen, does not check it."""
+    for size in (2, 4, 8):
+        check_error(case, OtherSize(size), call, complete(size))
+    for x, y in Table.pairs_of(3):
+        low, high = notes.stretch(x, y)
+        wrong = [list(row) for row in notes.lows.rows]
+        wrong[x][y] = high + 1
+        check_error(case, NotAgreeing(x, y), call, Table(wrong))
+        for a, b in Table.pairs_of(3):
+            if (a, b) > (x, y):
+                wrong[a][b] = notes.highs.rows[a][b] + 1
+        check_error(case, NotAgreeing(x, y), call, Table(wrong))
+        if low > 0:
+            wrong[x][y] = low - 1
+            check_error(case, NotAgreeing(x, y), call, Table(wrong))
 
 
 def check_numbers_named(case, name, call, *, least):
@@ -466,3 +516,113 @@ def aims_for(size):
 
 def all_lots(size):
     return [[x for x in range(size) if mask >> x & 1] for mask in range(1, 2 ** size - 1)]
+
+
+def slow_room(notes, row, states):
+    """The room of point 108."""
+    outside = [y for y in range(notes.size) if y not in states]
+    return (sum(row[y] * notes.highs.rows[y][x] for y in outside for x in states)
+            - sum(row[x] * notes.lows.rows[x][y] for x in states for y in outside))
+
+
+def is_share_row_of(table, row):
+    """True if the tree sums of the table stand to each other as the row."""
+    sums = slow_trees_of(table)
+    return all(sums[x] * row[y] == sums[y] * row[x] for x in range(table.size) for y in range(table.size))
+
+
+def is_balanced_at(table, row):
+    """True if a chain has the row, told without trees: at each state as much goes out as comes in."""
+    states = range(table.size)
+    return all(row[x] * sum(table.rows[x]) == sum(row[y] * table.rows[y][x] for y in states) for x in states)
+
+
+def is_scaled_world(notes, scaled):
+    """True for a tuple of a scale and a Chain with each rate in its stretch, times the scale."""
+    scale, table = scaled
+    return (type(scaled), type(scale), type(table)) == (tuple, int, Chain) and scale >= 1 and all(
+        scale * notes.lows.rows[x][y] <= table.rows[x][y] <= scale * notes.highs.rows[x][y]
+        for x, y in table.pairs_of(notes.size))
+
+
+def share_rows_for(notes):
+    """Share rows: those of some worlds, sums of them, others that are reached or not, one with equal entries."""
+    states = range(notes.size)
+    ends = [notes.lows, notes.highs, notes.world(notes.unseen()[::2])]
+    found = [slow_lowest_row(world) for world in ends]
+    found.append(tuple(one + other for one, other in zip(found[0], found[1])))
+    found += [(1,) * notes.size, tuple(1 + (3 * x) % 5 for x in states), tuple(notes.size - x for x in states)]
+    return list(dict.fromkeys(found))
+
+
+def slow_lowest_row(table):
+    sums = slow_trees_of(table)
+    return tuple(number // gcd(*sums) for number in sums)
+
+
+def slow_currents(notes, row):
+    """All fitting currents of the row, each one as a tuple of rows."""
+    size = notes.size
+    choices = [range(row[x] * notes.lows.rows[x][y], row[x] * notes.highs.rows[x][y] + 1)
+               for x in range(size) for y in range(size)]
+    found = []
+    for numbers in product(*choices):
+        lines = tuple(numbers[x * size:(x + 1) * size] for x in range(size))
+        if all(sum(lines[x]) == sum(line[x] for line in lines) for x in range(size)):
+            found.append(lines)
+    return found
+
+
+def currents_number(notes, row):
+    """The number of tries that `slow_currents` makes."""
+    number = 1
+    for x, y in notes.lows.pairs_of(notes.size):
+        number *= row[x] * (notes.highs.rows[x][y] - notes.lows.rows[x][y]) + 1
+    return number
+
+
+def costs_for(size, turn):
+    """Costs of either sign, costs that are all 0, rises of heights, and costs that are rises but for one pair."""
+    heights = [3, -1, 4, 0, 5, -2, 6, 1][:size]
+    rises = [[heights[y] - heights[x] for y in range(size)] for x in range(size)]
+    if turn % 5 == 1:
+        return [[0] * size for _ in range(size)]
+    if turn % 5 == 2:
+        return rises
+    if turn % 5 == 3:
+        rises[0][1] += 2
+        return rises
+    spread = 4 if turn % 5 == 0 else 1
+    return [[0 if x == y else (3 * x + 5 * y + turn) % 7 - spread for y in range(size)] for x in range(size)]
+
+
+def slow_cost(costs, ring):
+    return sum(costs[x][y] for x, y in ring_arrows(ring))
+
+
+def slow_carried(table, ring):
+    """What the ring carries: its weight times the sum of the forests whose roots are its states."""
+    weight = slow_sum(table, ring)
+    for x, y in ring_arrows(ring):
+        weight *= table.rows[x][y]
+    return weight
+
+
+def slow_pass(table, costs):
+    """PASS(k) of point 122, by the currents."""
+    sums = slow_trees_of(table)
+    return sum(costs[x][y] * sums[x] * table.rows[x][y] for x, y in table.pairs_of(table.size))
+
+
+def slow_ring_word(numbers):
+    """The ring word of numbers that belong to the rings of a chain."""
+    above, below = any(number > 0 for number in numbers), any(number < 0 for number in numbers)
+    if above and below:
+        return "mixed"
+    return "above" if above else "below" if below else "still"
+
+
+def slow_watched_arrows(chain, states):
+    """The pairs of watched states between which a walk leads whose other states are not watched."""
+    return [(x, y) for x in states for y in states if x != y
+            and any(not set(walk[1:-1]) & set(states) for walk in slow_walks(chain, x, y))]

@@ -188,6 +188,90 @@ raises NotJoined((0, 1))
 >>> [ratio_paper(notes, 0, 1), bound_row(notes, [4, 0, 4])]
 [(24, 8, (4, 0, 4)), (-8, 24, 0)]
 """,
+    """
+>>> from lastingshares.notes import Notes
+>>> from lastingshares.rooms import rooms
+>>> notes = Notes([[0, 2, 0], [1, 0, 1], [4, 0, 0]], [[0, 2, 0], [1, 0, 5], [4, 0, 0]])
+>>> rooms(notes, [2, 1, 1])
+[((0,), 1), ((0, 1), 3), ((0, 2), 2), ((1,), 2), ((1, 2), -1), ((2,), 1)]
+""",
+    """
+>>> from lastingshares.rooms import level_lots
+>>> level_lots([4, -1, 4, 2])
+[((0, 2), 2), ((0, 2, 3), 3)]
+""",
+    """
+>>> from lastingshares.notes import Notes
+>>> from lastingshares.told import rate_span, tells_rates
+>>> notes = Notes([[0, 2, 0], [1, 0, 1], [4, 0, 0]], [[0, 2, 0], [1, 0, 5], [4, 0, 0]])
+>>> [rate_span(notes, [8, 4, 3], 1, 2), tells_rates(notes, [8, 4, 3])]
+[((3, 1), (3, 1)), True]
+""",
+    """
+>>> from lastingshares.chains import Chain
+>>> from lastingshares.free import leaves_open, stuck_arrow
+>>> chain = Chain([[0, 2, 0], [1, 0, 3], [4, 0, 0]])
+>>> [stuck_arrow(chain, [(1, 0), (0, 1)]), leaves_open(chain, [(0, 1)])]
+[(1, 0), True]
+""",
+    """
+>>> from lastingshares.notes import Notes
+>>> from lastingshares.aims import Ratio
+>>> from lastingshares.gapping import gap, gap_by_lots, gap_lots
+>>> notes = Notes([[0, 2, 0], [1, 0, 1], [4, 0, 0]], [[0, 2, 0], [1, 0, 5], [4, 0, 0]])
+>>> aim = Ratio(0, 1)
+>>> [gap_lots(notes, aim), gap(notes, aim, [2, 1, 1]), gap_by_lots(notes, aim, [2, 1, 1])]
+[[((0, 2), 4)], 8, 8]
+""",
+    """
+>>> from lastingshares.chains import Chain
+>>> from lastingshares.passings import pass_sum, ring_passes
+>>> chain = Chain([[0, 2, 0], [1, 0, 1], [3, 0, 0]])
+>>> costs = [[0, 1, 0], [-2, 0, 0], [5, 0, 0]]
+>>> (pass_sum(chain, costs), ring_passes(chain, costs))
+(30, [((0, 1), -1, 6), ((0, 1, 2), 6, 6)])
+""",
+    """
+>>> from lastingshares.chains import Chain
+>>> from lastingshares.heights import even_heights, ring_heights, sum_verdict
+>>> chain = Chain([[0, 2, 0], [1, 0, 1], [3, 0, 0]])
+>>> costs = [[0, 3, 0], [-1, 0, 2], [-4, 0, 0]]
+>>> (sum_verdict(chain, costs), ring_heights(chain, costs), even_heights(chain, costs))
+('above', (0, 3, 5), None)
+""",
+    """
+>>> from lastingshares.chains import Chain
+>>> from lastingshares.turned import current_table, net, net_verdict, of_rings
+>>> chain = Chain([[0, 2, 0], [1, 0, 1], [3, 0, 0]])
+>>> table = of_rings(3, [[(0, 1), 6], [(0, 1, 2), 6]])
+>>> (net(chain, 0, 1), net_verdict(chain, 0, 1), table.rows, table == current_table(chain))
+(6, 'above', ((0, 12, 0), (6, 0, 6), (6, 0, 0)), True)
+""",
+    """
+>>> from lastingshares.chains import Chain
+>>> from lastingshares.watched import left_out, places_in, watched
+>>> chain = Chain([[0, 2, 0], [1, 0, 1], [3, 0, 0]])
+>>> (watched(chain, [2, 0]).rows, left_out(chain, 1).rows, places_in([2, 0], 2))
+(((0, 2), (6, 0)), ((0, 2), (6, 0)), 1)
+""",
+    """
+>>> from lastingshares.chains import Chain
+>>> from lastingshares.desks import Desk
+>>> from lastingshares.trees import tree_row
+>>> desk = Desk(Chain([[0, 2, 0], [1, 0, 1], [3, 0, 0]]), watch=(2, 0))
+>>> chain = desk.weigh(0, 1, 4)
+>>> (chain.rows, desk.what_if([("turn",)], tree_row), list(desk), desk.seen_alone().rows)
+(((0, 4, 0), (1, 0, 1), (3, 0, 0)), (4, 4, 12), ['weigh'], ((0, 4), (6, 0)))
+""",
+    r"""
+>>> from lastingshares.chains import Chain
+>>> from lastingshares.desks import Desk
+>>> from lastingshares.trials import tried
+>>> desk = Desk(Chain([[0, 2, 0], [1, 0, 1], [3, 0, 0]]))
+>>> first, second = tried(desk, [("speed", 2, 2), ("turn",)])
+>>> (first.rows, second.rows, len(desk), desk.words())
+(((0, 2, 0), (1, 0, 1), (6, 0, 0)), ((0, 1, 6), (2, 0, 0), (0, 1, 0)), 0, 'states 3\n0 1 2\n1 0 1\n1 2 1\n2 0 3\ndeeds 0\nunseen none')
+""",
 ]
 
 

@@ -82,6 +82,36 @@ FUNCTIONS = {
     "papers": ["bound_row(notes, heights, *, scale=1, costs=None)",
                "is_paper(notes, row, scale, heights, *, costs=None)", "paper(notes, row, *, costs=None)",
                "against(notes, row, *, costs=None)", "ratio_paper(notes, c, e)", "at_least(notes, c, e, u, v)"],
+    "ahead": ["rule_for(chain, aim, pairs)", "clash(chain, aim, pairs)", "tree_world(notes, c)"],
+    "atonce": ["soonest(notes, c)", "latest(notes, c)", "likeliest(notes, c, e)", "is_soonest(notes, world, c)",
+               "is_likeliest(notes, world, c, e)"],
+    "between": ["world_at(notes, aim, u, v)", "towards(first, second)"],
+    "rooms": ["share_row(size, thing)", "room(notes, row, states)", "rooms(notes, row)", "least_room(notes, row)",
+              "tight_lots(notes, row)", "room_row(notes, lot)", "level_lots(heights)"],
+    "currents": ["fitting(notes, row)", "is_fitting(notes, row, currents)", "scaled_of(row, currents)",
+                 "chain_currents(chain)"],
+    "reached": ["is_reached(notes, row)", "short_lot(notes, row)", "world_with(notes, row)",
+                "rates_of_state(chain, x, row)"],
+    "told": ["rate_span(notes, row, x, y)", "told_pairs(notes, row)", "tells_rates(notes, row)",
+             "two_worlds(notes, row)"],
+    "free": ["has_closed_row(size, pairs)", "shares_tell(chain, arrows)", "other_rates(chain, arrows)",
+             "stuck_arrow(chain, arrows)", "leaves_open(chain, arrows)", "rates_for(chain, arrows, row)",
+             "barred_row(chain, arrows)"],
+    "gapping": ["gap_lots(notes, aim)", "gap(notes, aim, row)", "gap_by_lots(notes, aim, row)"],
+    "passings": ["costs_of(size, thing)", "pass_sum(table, costs)", "ring_passes(table, costs)", "visits(table, x)",
+                 "visit_row(table)", "counting(size, pairs)", "steps_into(size, x)", "steps_from(size, x)"],
+    "heights": ["low_ring(chain, costs)", "ring_heights(chain, costs)", "even_heights(chain, costs)",
+                "sum_verdict(chain, costs)", "sum_rates(chain, costs, sign)"],
+    "often": ["visit_verdict(chain, x, y)", "pass_verdict(chain, first, second)", "ring_without(chain, y, x)",
+              "visit_span(chain, x, y)"],
+    "stepping": ["step_mean(table, costs)", "ring_means(chain, costs)", "rates_with_mean(chain, costs, u, v)",
+                 "round_mean(table, x, costs)", "round_cost(chain, x, costs)"],
+    "turned": ["current_table(table)", "is_even(table)", "is_balanced(table)", "net(table, x, y)",
+               "net_verdict(chain, x, y)", "of_rings(size, rings)"],
+    "watched": ["watched(table, states)", "left_out(table, z)", "places_in(states, x)",
+                "time_in(table, states, x, c)"],
+    "lumped": ["lumped(table, lots)", "lot_row(table, lots)", "is_alike(table, lots)", "alike_table(table, lots)"],
+    "trials": ["tried(desk, deeds)"],
 }
 
 GENERATORS = ["walks_along", "rings_along", "forests"]
@@ -104,6 +134,12 @@ METHODS = {
     ("aims", "Ratio"): ["__init__(self, over, under)", *AIM],
     ("aims", "Mean"): ["__init__(self, row)", *AIM],
     ("aims", "Cost"): ["__init__(self, row, costs)", *AIM],
+    ("desks", "Desk"): ["__init__(self, chain, *, notes=None, watch=())", "weigh(self, x, y, rate)",
+                        "speed(self, x, number)", "turn(self)", "forget(self)", "narrow(self, x, y, low, high)",
+                        "ask(self, x, y)", "settle(self, aim)", "watch(self, states)", "undo(self)", "shares(self)",
+                        "verdicts(self, a, b)", "seen_alone(self)", "ends(self, aim)",
+                        "what_if(self, deeds, question, *rest)", "words(self)"],
+    ("trials", "Trial"): ["__init__(self, desk)", "__enter__(self)", "__exit__(self, kind, value, trace)"],
 }
 
 SIGNS = {
@@ -114,6 +150,7 @@ SIGNS = {
     ("aims", "Ratio"): ["__eq__"],
     ("aims", "Mean"): ["__eq__"],
     ("aims", "Cost"): ["__eq__"],
+    ("desks", "Desk"): ["__iter__", "__len__"],
 }
 
 
@@ -167,6 +204,9 @@ class Names(unittest.TestCase):
         self.assertEqual([vars(aims[name])["WORD"] for name in ("Aim", "Ratio", "Mean", "Cost")],
                          ["aim", "ratio", "mean", "cost"])
         self.assertTrue(issubclass(module("chains").Chain, module("tables").Table))
+        desk = vars(module("desks").Desk)
+        self.assertIsInstance(desk["many"], property)
+        self.assertIsInstance(desk["watched_states"], property)
 
 
 class Errors(unittest.TestCase):
