@@ -27,7 +27,6 @@ def is_balanced(table):
 
 def net(table, x, y):
     """Returns the current of xy less that of yx."""
-    check_states(table.size, (x, y), ((0, 1),))
     return current(table, x, y) - current(table, y, x)
 
 

@@ -477,6 +477,23 @@ NOTES = [Notes([[0, 1], [1, 0]], [[0, 4], [3, 0]]),
 NOTES += some_notes(CHAINS[:19] * 2 + CHAINS[19:124:4] + CHAINS[95:], 7)
 
 
+def drawn_notes(size, many, seed):
+    """Notes on a ring and some other pairs, about a third of which are unseen, the same ones in each run."""
+    number = seed
+    found = []
+    for turn in range(many):
+        lows = [[0] * size for _ in range(size)]
+        highs = [[0] * size for _ in range(size)]
+        for x, y in Table.pairs_of(size):
+            number = (number * 6364136223846793005 + 1442695040888963407) % 2 ** 64
+            kind, low, width = (number >> 40) % 10, (number >> 44) % 3, (number >> 50) % 4
+            if y == (x * 3 + 1 + turn) % size or y == (x + 1) % size or kind == 0:
+                lows[x][y] = 1 + low
+            highs[x][y] = lows[x][y] + (1 + width if kind in (1, 2, 3) else 0)
+        found.append(Notes(lows, highs))
+    return found
+
+
 def slow_worlds(notes):
     """All tables that agree with the notes, ascending by their rows."""
     size = notes.size

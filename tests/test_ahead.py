@@ -9,8 +9,8 @@ from lastingshares.chains import Chain
 from lastingshares.errors import BadNumber, BadState
 from lastingshares.notes import Notes
 from support import (NOTES, SHAPES, are_parted, check_aims_named, check_arrow_lists_named, check_error,
-                     check_states_named, complete, shape_of, sign, slow_aim_push, slow_pair, slow_ratio_word, slow_trees,
-                     slow_word, slow_worlds)
+                     check_states_named, complete, shape_of, sign, slow_aim_push, slow_pair, slow_ratio_word,
+                     slow_trees, slow_word, slow_worlds)
 
 CHAIN = Chain([[0, 2, 0], [1, 0, 3], [4, 0, 0]])
 MANY_MIXED = Chain.of_arrows(4, [(0, 1), (0, 2), (0, 3), (1, 2), (1, 3), (2, 0), (3, 0)])

@@ -5,8 +5,10 @@ import unittest
 from lastingshares.chains import Chain
 from lastingshares.currents import chain_currents, fitting, is_fitting, scaled_of
 from lastingshares.notes import Notes
-from support import (CHAINS, NOTES, all_lots, check_shares_named, complete, currents_number, is_balanced_at,
-                     is_scaled_world, is_share_row_of, share_rows_for, slow_currents, slow_lowest_row, slow_room)
+from lastingshares.trees import lowest_row
+from support import (CHAINS, NOTES, all_lots, check_shares_named, complete, currents_number, drawn_notes,
+                     is_balanced_at, is_scaled_world, is_share_row_of, share_rows_for, slow_currents, slow_lowest_row,
+                     slow_room)
 
 EXAMPLE = Notes([[0, 2, 0], [1, 0, 1], [4, 0, 0]], [[0, 2, 0], [1, 0, 5], [4, 0, 0]])
 GREAT = Notes(Chain.around([1] * 8).rows, [[0 if x == y else 10 ** 12 - 9 * x - y for y in range(8)] for x in range(8)])
@@ -56,6 +58,21 @@ class Fitting(unittest.TestCase):
                 row = slow_lowest_row(world)
                 self.assertIsNotNone(fitting(notes, row))
                 self.assertIsNotNone(fitting(notes, [7 * entry for entry in row]))
+
+    def test_rows_of_drawn_worlds_and_rows_beside_them(self):
+        seen = set()
+        for size in (5, 6, 7, 8):
+            for place, notes in enumerate(drawn_notes(size, 60, size)):
+                row = lowest_row(notes.world(notes.unseen()[place % 3::3]))
+                beside = [entry + (x == place % size) for x, entry in enumerate(row)]
+                self.assertTrue(slow_fits(notes, row, fitting(notes, row)))
+                found = fitting(notes, beside)
+                seen.add(found is None)
+                if found is None:
+                    self.assertLess(min(slow_room(notes, beside, lot) for lot in all_lots(size)), 0)
+                else:
+                    self.assertTrue(slow_fits(notes, beside, found))
+        self.assertEqual(seen, {True, False})
 
     def test_edges(self):
         self.assertIsNone(fitting(EXAMPLE, [2, 1, 1]))

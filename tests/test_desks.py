@@ -1,4 +1,4 @@
-"""lastingshares.desks: desks, their deeds, taking back, and what if. A book that the tests keep stands beside each desk."""
+"""lastingshares.desks: desks, their deeds, taking back, and what if, beside a book of deeds that the tests keep."""
 
 import unittest
 
@@ -144,9 +144,9 @@ class Deeds(unittest.TestCase):
 
     def test_errors_of_states_and_numbers(self):
         for desk in (Desk(CHAIN), Desk(CHAIN, notes=NOTES)):
-            check_states_named(self, lambda table, *args: desk.weigh(*args), CHAIN, (0, 1, 5), same=((0, 1),), at=(0, 1))
-            check_states_named(self, lambda table, *args: desk.weigh(*args), CHAIN, (0, 1, -1), same=((0, 1),),
-                               at=(0, 1))
+            for rate in (5, -1):
+                check_states_named(self, lambda table, *args: desk.weigh(*args), CHAIN, (0, 1, rate), same=((0, 1),),
+                                   at=(0, 1))
             check_states_named(self, lambda table, *args: desk.speed(*args), CHAIN, (0, 0), at=(0,))
             for thing in (True, False, None, -1, "1", 1.0):
                 check_error(self, BadNumber("rate"), desk.weigh, 0, 1, thing)

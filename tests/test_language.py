@@ -215,6 +215,23 @@ class Forms(unittest.TestCase):
             self.assertIsInstance(node.exc, ast.Call, f"{name}: {node.lineno}")
             self.assertTrue(called(node.exc)[0].isupper() and node.cause is None, f"{name}: {node.lineno}")
 
+    def test_blocks_end_by_assignments_alone(self):
+        found = [(name, node) for name, node in nodes(ast.FunctionDef) if node.name == "__exit__"]
+        self.assertTrue(found)
+        for name, node in found:
+            for part in node.body:
+                self.assertIsInstance(part, ast.Assign, f"{name}: {part.lineno}")
+                self.assertIsInstance(part.value, ast.Attribute, f"{name}: {part.lineno}")
+                self.assertEqual((len(part.targets), called(part.value)), (1, ""))
+        self.assertEqual([name for name, node in nodes(ast.Try) if node.finalbody], [])
+
+    def test_no_attribute_has_the_name_of_a_method(self):
+        methods = {part.name for _, node in nodes(ast.ClassDef) for part in node.body
+                   if isinstance(part, ast.FunctionDef)}
+        for name, node in nodes(ast.Attribute):
+            if isinstance(node.ctx, ast.Store):
+                self.assertNotIn(node.attr, methods, f"{name}: {node.lineno}")
+
     def test_decorators_stand_over_methods_alone(self):
         for name, tree in trees():
             for node in tree.body:

@@ -73,7 +73,8 @@ class Lumps(unittest.TestCase):
         self.assertEqual(alike_table(ALIKE, [(0, 2), (1, 3)]).rows, ((0, 5), (1, 0)))
         self.assertEqual(alike_table(ALIKE, [(1, 3), (2, 0)]).rows, ((0, 1), (5, 0)))
         self.assertIsNone(alike_table(ALIKE, [(0, 1), (2, 3)]))
-        self.assertEqual(alike_table(complete(8), [[7, 0, 3], [1, 2], [4, 5, 6]]).rows, ((0, 2, 3), (3, 0, 3), (3, 2, 0)))
+        self.assertEqual(alike_table(complete(8), [[7, 0, 3], [1, 2], [4, 5, 6]]).rows,
+                         ((0, 2, 3), (3, 0, 3), (3, 2, 0)))
         self.assertEqual(alike_table(complete(8), [[x] for x in range(8)]), complete(8))
         self.assertEqual(alike_table(empty(3), [[0, 1], [2]]), empty(2))
         for order in permutations(range(3)):

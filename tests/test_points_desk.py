@@ -64,7 +64,8 @@ class Watched(unittest.TestCase):
                         found = forest_row(seen, inner[0], inner)
                         self.assertEqual([found[place[x]] for x in states], [row[x] * factor for x in states])
             sums = tree_row(table)
-            self.assertEqual([tree_row(seen)[place[x]] for x in states], [sums[x] * power(total, s - 2) for x in states])
+            self.assertEqual([tree_row(seen)[place[x]] for x in states],
+                             [sums[x] * power(total, s - 2) for x in states])
 
     def test_point_137_shares_and_chances(self):
         for chain, states, _, seen, place in each_watched(CHAINS[20::9]):
@@ -187,8 +188,9 @@ class Desks(unittest.TestCase):
     def test_point_146(self):
         for notes in wide_notes():
             desk = Desk(notes.lows, notes=notes, watch=(0, 1))
-            deeds = [("weigh", 0, 1, notes.highs[0, 1]), ("speed", 1, 1), ("turn",), ("narrow", 1, 0, *notes.stretch(0, 1)),
-                     ("ask", 1, 0), ("settle", Ratio(1, 0)), ("watch", []), ("forget",)]
+            deeds = [("weigh", 0, 1, notes.highs[0, 1]), ("speed", 1, 1), ("turn",),
+                     ("narrow", 1, 0, *notes.stretch(0, 1)), ("ask", 1, 0), ("settle", Ratio(1, 0)), ("watch", []),
+                     ("forget",)]
             states = []
             for name, *args in deeds:
                 states.append((desk.chain, desk.notes, desk.watched_states, list(desk)))

@@ -334,6 +334,23 @@ class Free(unittest.TestCase):
                 many += 1
         self.assertGreater(many, 10)
 
+    def test_notes_and_rows_never_change(self):
+        for notes in FEW:
+            before = (notes.lows.rows, notes.highs.rows, notes.unseen())
+            for row in map(list, share_rows_for(notes)):
+                kept = list(row)
+                for call in (rooms, tight_lots, fitting, is_reached, world_with):
+                    call(notes, row)
+                if is_reached(notes, row):
+                    for call in (told_pairs, tells_rates, two_worlds):
+                        call(notes, row)
+                    rate_span(notes, row, 0, 1)
+                self.assertEqual(row, kept)
+            for aim in (Ratio(0, 1), Mean(list(range(notes.size)))):
+                gap_lots(notes, aim)
+                world_at(notes, aim, 1, 1)
+            self.assertEqual((notes.lows.rows, notes.highs.rows, notes.unseen()), before)
+
     def test_point_119(self):
         notes = NOTES[1]
         for call in (rooms, fitting, is_reached, world_with, told_pairs, tells_rates, two_worlds):

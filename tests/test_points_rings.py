@@ -24,6 +24,7 @@ from lastingshares.turned import current_table, is_balanced, is_even, net, net_v
 from support import (CHAINS, MIXED, NOTES, SHAPES, all_lots, costs_for, ring_arrows, several_rates, shape_of,
                      share_rows_for, sign)
 
+WORDS = {(False, False): "still", (True, False): "above", (False, True): "below", (True, True): "mixed"}
 SIGNS = {"above": (1,), "below": (-1,), "still": (0,), "mixed": (-1, 0, 1)}
 FEW = SHAPES[:19] + SHAPES[19:80:4] + SHAPES[80::6]
 
@@ -75,7 +76,7 @@ class Passings(unittest.TestCase):
             word = sum_verdict(chain, costs)
             below = any(ring_cost(costs, ring) < 0 for ring in rings(chain))
             above = any(ring_cost(costs, ring) > 0 for ring in rings(chain))
-            self.assertEqual(word, {(0, 0): "still", (1, 0): "above", (0, 1): "below", (1, 1): "mixed"}[above, below])
+            self.assertEqual(word, WORDS[above, below])
             for wanted in (1, 0, -1):
                 found = sum_rates(chain, costs, wanted)
                 self.assertIs(found is not None, wanted in SIGNS[word])
@@ -239,7 +240,7 @@ class Turned(unittest.TestCase):
             for x, y in chain.pairs_of(chain.size):
                 forth, back = any((x, y) in ring for ring in long), any((y, x) in ring for ring in long)
                 word = net_verdict(chain, x, y)
-                self.assertEqual(word, {(0, 0): "still", (1, 0): "above", (0, 1): "below", (1, 1): "mixed"}[forth, back])
+                self.assertEqual(word, WORDS[forth, back])
                 for rates in several_rates(chain, 3):
                     self.assertIn(sign(net(rates, x, y)), SIGNS[word])
 

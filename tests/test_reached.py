@@ -85,7 +85,8 @@ class OneState(unittest.TestCase):
             own = slow_lowest_row(chain)
             for x in range(chain.size):
                 for row in (own, [2 * entry for entry in own], [1] * chain.size, list(range(1, chain.size + 1)),
-                            [1 if y == x else 3 for y in range(chain.size)], [5 if y == x else p for y, p in enumerate(own)]):
+                            [1 if y == x else 3 for y in range(chain.size)],
+                            [5 if y == x else p for y, p in enumerate(own)]):
                     rates = self.slow_rates(chain, x, row)
                     found = rates_of_state(chain, x, row)
                     seen.add(found is None)

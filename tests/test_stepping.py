@@ -95,7 +95,7 @@ class Steps(unittest.TestCase):
         for number, times in ((low, 1), (high, -1)):
             u, v = parts_of(number)
             off = [[0 if x == y else times * (v * k - u) for y, k in enumerate(line)] for x, line in enumerate(lines)]
-            # No ring is beyond the end, and some ring is at it: it alone falls below 0 if each arrow costs a little less.
+            # No ring is beyond the end. Some ring is at it: it falls below 0 if each arrow costs a little less.
             self.assertIsNotNone(ring_heights(chain, off))
             less = [[0 if x == y else 9 * k - 1 for y, k in enumerate(line)] for x, line in enumerate(off)]
             self.assertIsNone(ring_heights(chain, less))

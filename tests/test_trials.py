@@ -132,7 +132,8 @@ class Tried(unittest.TestCase):
     def test_edges(self):
         desk = Desk(CHAIN)
         first, second = tried(desk, [("speed", 2, 2), ("turn",)])
-        self.assertEqual((first.rows, second.rows), (((0, 2, 0), (1, 0, 1), (6, 0, 0)), ((0, 1, 6), (2, 0, 0), (0, 1, 0))))
+        self.assertEqual(first.rows, ((0, 2, 0), (1, 0, 1), (6, 0, 0)))
+        self.assertEqual(second.rows, ((0, 1, 6), (2, 0, 0), (0, 1, 0)))
         self.assertEqual((tried(desk, []), tried(desk, ())), ((), ()))
         self.assertEqual(tried(desk, [["watch", (0, 2)], ("forget",)]), (CHAIN, CHAIN))
         self.assertEqual((list(desk), desk.watched_states), ([], ()))

@@ -117,7 +117,8 @@ class WeightedRings(unittest.TestCase):
     def test_edges(self):
         self.assertEqual((of_rings(2, []), of_rings(8, ())), (empty(2), empty(8)))
         self.assertEqual(of_rings(3, [[(0, 1), 6], [(0, 1, 2), 6]]).rows, ((0, 12, 0), (6, 0, 6), (6, 0, 0)))
-        self.assertEqual(of_rings(3, [[(2, 0, 1), 1], [(1, 2, 0), 1], [(0, 1, 2), 1]]), Table(Chain.around([3] * 3).rows))
+        self.assertEqual(of_rings(3, [[(2, 0, 1), 1], [(1, 2, 0), 1], [(0, 1, 2), 1]]).rows,
+                         Chain.around([3] * 3).rows)
         self.assertEqual(of_rings(2, [[(1, 0), 1]]).rows, ((0, 1), (1, 0)))
 
     def test_errors(self):
