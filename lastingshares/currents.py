@@ -71,7 +71,8 @@ def relieving_path(lines, least, most):
         if ended:
             return ended[0]
         longer = []
-        for path in paths:
+        # A copy is walked, since `paths` is the list `longer` of the round before.
+        for path in list(paths):
             for y in range(len(lines)):
                 if y not in met and spare(lines, least, most, path[-1], y) > 0:
                     met.append(y)
